@@ -1,0 +1,1 @@
+"""Dawnway: a day of works whose lengths are seen only when they end."""

@@ -1,0 +1,1 @@
+"""Names, ticks and what is seen."""

@@ -1,0 +1,1 @@
+"""Nets of events, works and bounds, and the ticks that they let."""

@@ -1,0 +1,1 @@
+"""Courses, ways and the plays that they make."""

@@ -1,0 +1,1 @@
+"""Rows, the rules that make them, lists and closed tables."""

@@ -1,0 +1,228 @@
+"""Makes all rows that rules make of the told rows of a net, each with its reason.
+
+What is made is told to a long list of lines; a line that is covered later stays there, for others
+can hang on it. Events and works are told by indices here, as this is the part that has most to do.
+"""
+
+from dawnway.base.names import DAWN
+from dawnway.rule.rows import indices_of
+
+# No bound has such a number: it stands for none, and its opposite for no wait.
+_FAR = 10 ** 41
+# Two long told numbers add up to a longer one: the last line of a list then tells the least that a row can.
+_LEAST = 1 - 10 ** 40
+
+
+class Closing:
+    """The least bounds and the greatest waits of a net, or a bound from an event to itself below 0."""
+
+    def __init__(self, net):
+        self._net = net
+        self._events = sorted([DAWN, *net.events])
+        self._places = {event: at for at, event in enumerate(self._events)}
+        self._size = len(self._events)
+        self._every = list(range(self._size))
+        self._works = _placed_works(net, self._places)
+        self._names = list(net.works)
+        self._sums = [[_FAR] * self._size for _ in self._every]
+        self._origins = [[None] * self._size for _ in self._every]
+        self._waits = [[-_FAR] * self._size for _ in self._works]
+        self._reasons = [[None] * self._size for _ in self._works]
+        self._lines = []
+        self._last = None
+        for at in self._every:
+            self._sums[at][at] = 0
+        self._close()
+
+    def as_table(self):
+        """The bounds and the waits of the closure, as two dicts, or None if there is none."""
+        if self._last is not None:
+            return None
+        bounds = {}
+        waits = {}
+        for one, first in enumerate(self._events):
+            for other, second in enumerate(self._events):
+                if one != other:
+                    bounds[(first, second)] = self._sums[one][other]
+            for work, (_, end, _, _, _) in enumerate(self._works):
+                if one != end:
+                    waits[(first, self._names[work])] = self._waits[work][one]
+        return bounds, waits
+
+    def as_list(self):
+        """The lines that lead to the bound below 0, or None if there is none."""
+        if self._last is None:
+            return None
+        used = {self._last: True}
+        for index in range(self._last, -1, -1):
+            if index in used:
+                for earlier in indices_of(self._lines[index][1]):
+                    used[earlier] = True
+        places = {index: at for at, index in enumerate(sorted(used))}
+        return tuple([self._told_line(places, index) for index in sorted(used)])
+
+    def _told_line(self, places, index):
+        (kind, one, other, number), why = self._lines[index]
+        second = self._events[other] if kind == "bound" else self._names[other]
+        told = tuple([part if isinstance(part, str) else places[part] for part in why])
+        return (kind, self._events[one], second, number), told
+
+    def _close(self):
+        self._tell()
+        for mid in self._every:
+            self._join_over(mid)
+        changed = True
+        while changed and self._last is None:
+            self._all_early()
+            for work in range(len(self._works)):
+                self._wait(work)
+            changed = self._all_sure()
+
+    def _tell(self):
+        """Begins with the told rows; each two events have a bound before the named ones are looked at.
+
+        So a bound that is far below 0 meets one that leads back at once, and no sum becomes too long.
+        """
+        words = self._net.told
+        for word in words:
+            if word[0] in ("last", "begin"):
+                self._tell_row(word)
+        self._join_over(self._places[DAWN])
+        for word in words:
+            if word[0] not in ("last", "begin"):
+                self._tell_row(word)
+
+    def _tell_row(self, word):
+        _, first, second, most = self._net.row(word)
+        one, other = self._places[first], self._places[second]
+        if self._last is None and most < self._sums[one][other]:
+            self._take(one, other, most, word)
+
+    def _take(self, one, other, number, why):
+        """Takes a bound that is less than the one that is there."""
+        index = len(self._lines)
+        self._lines.append((("bound", one, other, number), why))
+        if one == other:
+            self._last = index
+            return
+        self._sums[one][other] = number
+        self._origins[one][other] = index
+        back = self._sums[other][one]
+        if number + back < 0:
+            row = ("bound", one, one, max(_LEAST, number + back))
+            self._lines.append((row, ("joined", index, self._origins[other][one])))
+            self._last = index + 1
+
+    def _take_wait(self, work, at, number, why):
+        """Takes a wait that is greater than the one that is there."""
+        self._reasons[work][at] = len(self._lines)
+        self._waits[work][at] = number
+        self._lines.append((("wait", at, work, number), why))
+
+    def _join_over(self, mid):
+        """Makes the bounds that lead over one event."""
+        for one in self._every:
+            if self._last is not None:
+                return
+            if one != mid and self._sums[one][mid] < _FAR:
+                self._join(one, mid)
+
+    def _join(self, one, mid):
+        """Makes the bounds from one event that lead over another one."""
+        step = self._sums[one][mid]
+        here = self._sums[one]
+        onward = self._sums[mid]
+        better = [at for at in self._every if step + onward[at] < here[at]]
+        for at in better:
+            self._take(one, at, step + onward[at], ("joined", self._origins[one][mid], self._origins[mid][at]))
+            if self._last is not None:
+                return
+
+    def _all_early(self):
+        """Makes bounds by `early` and `joined` until neither makes a lesser one."""
+        changed = True
+        while changed and self._last is None:
+            changed = False
+            for work in range(len(self._works)):
+                if self._last is None and self._early(work):
+                    changed = True
+
+    def _early(self, work):
+        """Makes the bounds of one work by `early`, and those that they make by `joined`."""
+        begin, end, least, _, look = self._works[work]
+        here = self._sums[begin]
+        ahead = self._sums[end]
+        better = [at for at in self._every if at != end and ahead[at] < look and least + ahead[at] < here[at]]
+        for at in better:
+            if self._last is None:
+                self._take(begin, at, least + ahead[at], ("early", self._origins[end][at]))
+        # All that was there is joined already: it is enough to go on from the new bounds once.
+        for mid in better:
+            if self._last is None:
+                self._join(begin, mid)
+        if better != []:
+            self._join_over(begin)
+        return better != []
+
+    def _wait(self, work):
+        """Makes the waits for one work until no rule makes a greater one of these bounds."""
+        _, end, _, most, _ = self._works[work]
+        waits = self._waits[work]
+        if self._last is not None:
+            return
+        for at in self._every:
+            if at != end and most - self._sums[at][end] > waits[at]:
+                self._take_wait(work, at, most - self._sums[at][end], ("first", self._origins[at][end]))
+        others = [other for other in self._works if other[1] != end and other[0] != end]
+        # By `first` alone, nothing is made by `late`: only what `both` made leads on to more.
+        for begin, _, _, _, _ in others:
+            self._late(work, begin)
+        changed = True
+        while changed:
+            changed = False
+            for begin, other, least, _, _ in others:
+                if waits[other] >= 1 and waits[other] - least > waits[begin]:
+                    self._take_wait(work, begin, waits[other] - least, ("both", self._reasons[work][other]))
+                    self._late(work, begin)
+                    changed = True
+
+    def _late(self, work, mid):
+        """Makes the waits for one work by `late` of the wait of one event."""
+        end = self._works[work][1]
+        waits = self._waits[work]
+        step = waits[mid]
+        for at in self._every:
+            if at != end and step - self._sums[at][mid] > waits[at]:
+                why = ("late", self._origins[at][mid], self._reasons[work][mid])
+                self._take_wait(work, at, step - self._sums[at][mid], why)
+
+    def _all_sure(self):
+        """Makes bounds by `sure` and `joined`; whether there was a lesser one."""
+        changed = False
+        for work in range(len(self._works)):
+            if self._last is None and self._sure(work):
+                changed = True
+        return changed
+
+    def _sure(self, work):
+        """Makes the bounds of one work by `sure`, and those that they make by `joined`."""
+        begin, end, least, _, look = self._works[work]
+        told = [-min(wait, least + look) for wait in self._waits[work]]
+        better = [at for at in self._every if at != end and told[at] < self._sums[at][begin]]
+        for at in better:
+            if self._last is None:
+                self._take(at, begin, told[at], ("sure", self._reasons[work][at]))
+        for mid in better:
+            for at in self._every:
+                found = self._sums[at][mid] + self._sums[mid][begin]
+                if self._last is None and found < self._sums[at][begin]:
+                    self._take(at, begin, found, ("joined", self._origins[at][mid], self._origins[mid][begin]))
+        if better != []:
+            self._join_over(begin)
+        return better != []
+
+
+def _placed_works(net, places):
+    """The works, ascending by their names, with indices of their events."""
+    works = net.works
+    return [(places[works[name][0]], places[works[name][1]], *works[name][2:]) for name in works]

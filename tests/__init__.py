@@ -1,0 +1,1 @@
+"""Tests of dawnway, run by .ci/run."""

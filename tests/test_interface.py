@@ -1,0 +1,83 @@
+"""The names, parameters and places that the document lists."""
+
+import inspect
+import unittest
+from importlib import import_module
+
+FUNCTIONS = {
+    "dawnway.base.names": {
+        "is_integer": "value", "is_name": "value", "is_tick": "value", "is_names": "value", "is_seen": "value",
+        "seen_until": "seen, tick", "tick_of": "seen, name",
+    },
+    "dawnway.net.nets": {"net_fault": "lasts, works, bounds"},
+    "dawnway.net.times": {
+        "times_paper": "net", "is_times_paper": "net, value", "are_times": "net, value", "has_times": "net",
+        "earliest": "net", "latest": "net", "reach": "net, first, second", "course_of": "net, times",
+    },
+    "dawnway.net.least": {
+        "least_net": "net", "is_least_net": "net, value", "let_same": "one, other", "parting_times": "one, other",
+        "follows": "net, first, second, most", "idle_bounds": "net", "trimmed": "net", "free_net": "net",
+    },
+    "dawnway.play.plays": {
+        "is_course": "net, value", "each_course": "net", "seen_at": "net, times, tick", "play": "net, way, course",
+        "first_broken": "net, way, courses",
+    },
+    "dawnway.rule.rows": {
+        "is_row": "net, value", "is_told": "net, value", "covers": "net, row, other", "made": "net, rule, row, *, other=None",
+        "is_list": "net, value", "list_fault": "net, value", "used_lines": "net, lines",
+    },
+    "dawnway.rule.tables": {
+        "is_form": "net, value", "table_fault": "net, bounds, waits", "is_closed": "net, value", "answer": "net",
+        "is_answer": "net, value", "is_safe": "net", "closure": "net", "tightest": "net, first, second",
+        "needed_wait": "net, event, work",
+    },
+}
+CLASSES = {
+    ("dawnway.net.nets", "Net"): {
+        "__init__": "self, lasts, works=(), bounds=()", "row": "self, word", "work_of": "self, event", "road": "self, event",
+        "with_bounds": "self, bounds", "without": "self, *names", "with_lengths": "self, lengths",
+        "with_looks": "self, looks", "with_lasts": "self, lasts", "renamed": "self, names", "__len__": "self",
+        "__contains__": "self, value", "__eq__": "self, other", "__str__": "self",
+    },
+    ("dawnway.play.plays", "Play"): {
+        "__init__": "self, net, course, rounds", "seen_to": "self, tick", "is_broken": "self, row", "__len__": "self",
+        "__eq__": "self, other", "__str__": "self",
+    },
+}
+PROPERTIES = {
+    ("dawnway.net.nets", "Net"): ("lasts", "works", "bounds", "events", "deeds", "ends", "horizon", "told"),
+    ("dawnway.play.plays", "Play"): ("net", "course", "rounds", "times", "broken", "is_whole"),
+}
+
+
+class InterfaceTest(unittest.TestCase):
+    def test_functions(self):
+        for module, names in FUNCTIONS.items():
+            for name, parameters in names.items():
+                told = getattr(import_module(module), name)
+                self.assertEqual(told.__module__, module)
+                self.assertEqual(str(inspect.signature(told)), f"({parameters})", name)
+
+    def test_methods_stand_in_their_class(self):
+        for (module, name), methods in CLASSES.items():
+            told = getattr(import_module(module), name)
+            self.assertEqual(told.__module__, module)
+            for method, parameters in methods.items():
+                self.assertIn(method, vars(told))
+                self.assertEqual(str(inspect.signature(vars(told)[method])), f"({parameters})", method)
+
+    def test_properties_stand_in_their_class(self):
+        for (module, name), properties in PROPERTIES.items():
+            for told in properties:
+                self.assertIsInstance(vars(getattr(import_module(module), name))[told], property, told)
+
+    def test_errors(self):
+        module = import_module("dawnway.errors")
+        for name in ("DayError", "InvalidName", "InvalidNet", "InvalidRow", "InvalidTable", "InvalidCourse", "InvalidWay",
+                     "InvalidDay", "InvalidDeal", "InvalidOperation", "InvalidCommand", "ParseError", "UnknownName",
+                     "InvalidNumber", "TooMany", "Refused", "NothingToUndo"):
+            self.assertEqual(getattr(module, name).__module__, "dawnway.errors")
+
+
+if __name__ == "__main__":
+    unittest.main()
