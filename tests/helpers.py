@@ -122,6 +122,27 @@ def random_net(seed, *, events=4, works=2, bounds=4, horizon=6, longest=3, look=
     return Net(lasts, chosen, told)
 
 
+def crossed_net(seed, *, works=2, bounds=2, horizon=9, longest=4, look=2):
+    """A small net with bounds between ends above all, in which a deed has to wait for the end of another work."""
+    rng = random.Random(seed)
+    deeds = [f"d{index}" for index in range(works)]
+    ends, begun, chosen = [], {}, {}
+    for index in range(works):
+        begin = rng.choice(["dawn", *deeds, *ends])
+        least = rng.randint(1, longest)
+        chosen[f"w{index}"] = (begin, f"e{index}", least, rng.randint(least, longest + 1), rng.choice([0, rng.randint(0, look)]))
+        begun[begin] = True
+        ends.append(f"e{index}")
+    for name, work in chosen.items():
+        if work[1] in begun:
+            chosen[name] = (*work[:4], 0)
+    told = {}
+    for index in range(bounds):
+        first, second = rng.sample(ends if rng.random() < 0.7 else deeds + ends, 2)
+        told[f"b{index}"] = (first, second, rng.randint(-2, 4))
+    return Net({name: rng.randint(horizon - 2, horizon) for name in deeds + ends}, chosen, told)
+
+
 def random_bare(seed, *, events=3, bounds=4, horizon=4):
     """A small net without works."""
     return random_net(seed, events=events, works=0, bounds=bounds, horizon=horizon)

@@ -183,14 +183,15 @@ class WrongWayTest(unittest.TestCase):
             ((["call"],), None), (("call", "call"), None), ({"call": 1}, None), ((1,), None), ({}, None),
         )
         for step in wrong:
+            # Only at dawn: what is returned later is right, whatever came of the first step.
+            with self.assertRaises(InvalidWay, msg=step):
+                play(CHAIN, told_way({0: step}, []), COURSE)
+        for steps in ({0: (("b", "a"), None)}, {0: (("a",), 1), 1: (("a",), None)}, {0: ((), 5), 5: ((), 5)},
+                      {0: (("a",), 1), 1: (("a", "b"), 2)}):
             with self.assertRaises(InvalidWay):
-                play(CHAIN, lambda tick, seen: step, COURSE)
-        with self.assertRaises(InvalidWay):
-            play(BARE, lambda tick, seen: (("b", "a"), None), {})
-        with self.assertRaises(InvalidWay):
-            play(BARE, lambda tick, seen: (("a",), 1), {})
-        with self.assertRaises(InvalidWay):
-            play(BARE, lambda tick, seen: ((), 5), {})
+                play(BARE, told_way(steps, []), {})
+        for again in (10 ** 32, 10 ** 32 - 1):
+            self.assertEqual(play(BARE, told_way({0: ((), again)}, []), {}).rounds, ())
 
     def test_wrong_only_later(self):
         asks = []
@@ -257,12 +258,13 @@ class PlayTest(unittest.TestCase):
             None, [], "x", {}, list(ROUNDS), ROUNDS[1:], ROUNDS[:3], ROUNDS[::-1], (*ROUNDS, ROUNDS[-1]), (None,),
             (early, call, both, last), (early, both, last), ((5, ("land",), ()), *ROUNDS[1:]),
             ((4, ("land",)), *ROUNDS[1:]), ([4, ("land",), ()], *ROUNDS[1:]), ((4, ["land"], ()), *ROUNDS[1:]),
-            ((4, ("land",), []), *ROUNDS[1:]), ((4, (), ("land",)), *ROUNDS[1:]), ((4, ("land",), (), ()), *ROUNDS[1:]),
+            ((4, ("land",), []), *ROUNDS[1:]), ((4, ("land",), None), *ROUNDS[1:]), ((4, (), ("land",)), *ROUNDS[1:]), ((4, ("land",), (), ()), *ROUNDS[1:]),
             (early, (6, ("gate", "clear"), ()), call, last), (early, (6, ("clear",), ()), call, last),
             (early, (6, ("clear",), ()), (6, ("gate",), ()), call, last), (*ROUNDS, (10, (), ())),
             (early, both, (7, ("call",), ()), last), (early, both, (7, (), ("call", "call")), last),
             (early, both, (7, (), ("go",)), last), (early, both, (7, (), ("x",)), last),
-            (early, both, (7, (), (["call"],)), last), (early, both, (7, (), "call"), last),
+            (early, both, (7, (), (["call"],)), last), (early, both, (7, (), ("call", "dawn")), last),
+            (early, both, (7, (), ("call",)), (8, (), ("call",)), last), ((0, (), ("dawn",)), *ROUNDS), (early, both, (7, (), "call"), last),
             (early, both, call, (9, ("go",), ("call",))), (early, both, call, (10, ("go",), ())),
             ((4, ("land", "x"), ()), *ROUNDS[1:]), ((4, None, ()), *ROUNDS[1:]), ((4, (), ()), *ROUNDS[1:]),
         )

@@ -8,9 +8,16 @@ from dawnway.play.plays import each_course, is_course, play
 from dawnway.rule import rows
 from dawnway.rule.rows import covers, is_list, is_row, is_told, list_fault, made, used_lines
 from dawnway.rule.tables import answer
-from tests.helpers import CHAIN, DAY, HARD, LATE, LINES, odd_values, random_net, random_way
+from tests.helpers import CHAIN, DAY, HARD, LATE, LINES, crossed_net, odd_values, random_net, random_way
 
 FAR = 10 ** 40 - 1
+
+
+def net_by(seed):
+    """A small net, by turns of all sorts and such that works cross each other."""
+    if seed % 2 == 0:
+        return random_net(seed, events=3 + seed % 4 // 2, works=1 + seed % 4 // 2, bounds=3)
+    return crossed_net(seed, works=2, bounds=2 + seed % 4 // 2, horizon=7, longest=3)
 
 
 class RowTest(unittest.TestCase):
@@ -184,6 +191,14 @@ class MadeTest(unittest.TestCase):
         self.check(CHAIN, "both", ("wait", "gate", "storm", FAR), ("wait", "land", "storm", FAR - 1))
         self.check(CHAIN, "sure", ("wait", "call", "storm", -FAR), ("bound", "call", "dawn", FAR))
 
+    def test_a_work_called_like_an_event(self):
+        net = Net({"a": 5, "b": 5, "c": 5}, {"a": ("dawn", "b", 1, 2, 0), "c": ("dawn", "c", 1, 2, 0)})
+        bound, wait = ("bound", "a", "c", 1), ("wait", "dawn", "a", 1)
+        self.check(net, "joined", wait, None, bound)
+        self.check(net, "joined", bound, None, ("wait", "c", "a", 1))
+        self.check(net, "late", ("wait", "dawn", "a", 1), None, ("wait", "a", "c", 1))
+        self.check(net, "late", ("bound", "dawn", "a", 1), None, ("bound", "a", "c", 1))
+
     def test_errors_in_their_order(self):
         bound, wait = ("bound", "gate", "call", 1), ("wait", "call", "storm", 1)
         with self.assertRaises(InvalidNet):
@@ -260,6 +275,17 @@ class ListTest(unittest.TestCase):
         self.assertEqual(self.fault(*LINES[:2], (("bound", "land", "land", 0), ("joined", 1, 0))), ("end", None))
         self.assertEqual(self.fault((("bound", "land", "dawn", -10), ("least", "fly"))), ("end", None))
 
+    def test_a_wait_is_no_end(self):
+        net = Net({"a": 5, "b": 5}, {"a": ("dawn", "b", 1, 2, 0)})
+        line = (("bound", "a", "b", 3), ("bound", "x"))
+        self.assertEqual(self.fault(line, (("wait", "a", "a", -1), ("first", 0)), net=net.with_bounds({"x": line[0][1:]})), ("end", None))
+
+    def test_no_rule_but_the_six(self):
+        for rule in ("told", "Sure", "", "bound", "last"):
+            lines = (LINES[0], (("wait", "board", "fly", 35), ("first", 0)), (("bound", "board", "dawn", -10), (rule, 1)))
+            self.assertEqual(self.fault(*lines), (2, "why"))
+        self.assertEqual(self.fault(*lines[:2], (lines[2][0], ("sure", 1))), ("end", None))
+
     def test_first_of_several_faults(self):
         good, bad = LINES[0], (("bound", "x", "x", 1), None)
         self.assertEqual(self.fault(good, None, bad), (1, "form"))
@@ -314,7 +340,7 @@ class ListTest(unittest.TestCase):
     def test_spoilt_lines(self):
         spoilt = 0
         for seed in range(300):
-            net = random_net(seed, events=3 + seed % 2, works=1 + seed % 2, bounds=3)
+            net = net_by(seed)
             told = answer(net)
             if told[0] == "table":
                 continue
@@ -349,8 +375,8 @@ class RightForWaysTest(unittest.TestCase):
 
     def test_made_rows_break_with_used_ones(self):
         followed = 0
-        for seed in range(120):
-            net = random_net(seed, events=3 + seed % 2, works=1 + seed % 2, bounds=3)
+        for seed in range(160):
+            net = net_by(seed)
             told = answer(net)
             if told[0] == "table":
                 continue
@@ -366,7 +392,7 @@ class RightForWaysTest(unittest.TestCase):
 
     def test_no_way_keeps_a_net_with_a_list(self):
         for seed in range(200):
-            net = random_net(seed, events=3 + seed % 2, works=1 + seed % 2, bounds=3)
+            net = net_by(seed)
             if answer(net)[0] == "list":
                 way = random_way(net, seed, 4)
                 self.assertTrue(any(play(net, way, course).broken for course in each_course(net)))

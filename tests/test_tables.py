@@ -12,16 +12,21 @@ from dawnway.rule.tables import (
     answer, closure, is_answer, is_closed, is_form, is_safe, needed_wait, table_fault, tightest,
 )
 from tests.helpers import (
-    BARE, CHAIN, DAY, HARD, LATE, LINES, are_keys_ascending, closure_by_adding, is_same, is_winnable, odd_values,
-    random_net, walk_of,
+    BARE, CHAIN, DAY, HARD, LATE, LINES, are_keys_ascending, closure_by_adding, crossed_net, is_same, is_winnable,
+    odd_values, random_net, walk_of,
 )
 
 BOUNDS, WAITS = closure(DAY)
 FAR = 10 ** 40 - 1
 
 
-def nets(count=200, **more):
-    return [random_net(seed, events=2 + seed % 3, works=1 + seed % 2, bounds=1 + seed % 4, **more) for seed in range(count)]
+def nets(count=200, horizon=6):
+    """Half of them of all sorts, half of them such that works cross each other."""
+    told = []
+    for seed in range(count // 2):
+        told.append(random_net(seed, events=2 + seed % 3, works=1 + seed % 2, bounds=1 + seed % 4, horizon=horizon))
+        told.append(crossed_net(seed, works=2, bounds=1 + seed % 3, horizon=horizon, longest=2 + seed % 2))
+    return told
 
 
 def rows_of(bounds, waits):
@@ -111,10 +116,18 @@ class ClosureTest(unittest.TestCase):
             self.assertEqual(told, closure_by_adding(net, seed + 1))
         self.assertEqual(kinds, {(True, True), (True, False), (False, True)})
 
-    def test_longer_chains_of_works(self):
-        for seed in range(60):
-            net = random_net(seed, events=6, works=4, bounds=4, horizon=14, longest=5, look=4)
+    def test_more_works(self):
+        for seed in range(80):
+            net = crossed_net(seed, works=3, bounds=1 + seed % 3, horizon=14, longest=5, look=4)
             self.assertTrue(is_same(closure(net), closure_by_adding(net, seed)), seed)
+
+    def test_each_rule_stands_in_some_list(self):
+        words = set()
+        for seed in range(200):
+            told = answer(crossed_net(seed, works=3, bounds=3))
+            if told[0] == "list":
+                words.update(why[0] for _, why in told[1])
+        self.assertEqual(words, {"bound", "last", "begin", "most", "least", "joined", "early", "first", "late", "both", "sure"})
 
     def test_exactly_one_of_both(self):
         for net in nets():
@@ -163,6 +176,7 @@ class ClosureTest(unittest.TestCase):
     def test_far_bounds(self):
         lasts = {"a": 10 ** 30, "b": 10 ** 30}
         for bounds in ({"x": ("a", "b", -FAR), "y": ("b", "a", -5)}, {"x": ("a", "b", -FAR), "y": ("b", "a", -FAR)},
+                       {"x": ("a", "b", -5), "y": ("b", "a", -FAR)}, {"x": ("a", "b", FAR), "y": ("b", "a", -FAR)},
                        {"x": ("a", "dawn", -FAR), "y": ("b", "a", 5)}, {"x": ("dawn", "b", -FAR), "y": ("b", "dawn", -9)},
                        {"x": ("a", "b", -FAR), "y": ("b", "a", FAR)}):
             for works in ({}, {"w": ("dawn", "b", 10 ** 30, 10 ** 30, 20)}):
@@ -244,6 +258,21 @@ class FaultTest(unittest.TestCase):
                 told = fault and (fault[1] if fault[0] == "made" else fault[0])
                 rules[told] = rules.get(told, 0) + 1
         self.assertEqual(set(rules), {None, "told", "joined", "early", "first", "late", "both", "sure"})
+
+    def test_a_work_called_like_an_event(self):
+        for seed, net in enumerate(nets(80)):
+            table = closure(net)
+            spare = [event for event in net.events if net.work_of(event) != "w0"]
+            if table is None or spare == []:
+                continue
+            named = net.renamed({"w0": spare[0]})
+            bounds, waits = closure(named)
+            self.assertIs(is_closed(named, (bounds, waits)), True)
+            for pair in waits:
+                wrong = {**waits, pair: waits[pair] - 1}
+                self.assertEqual(table_fault(named, bounds, wrong), plain_fault(named, bounds, wrong))
+                wrong = {key: waits[key] for key in waits if key != pair}
+                self.assertEqual(table_fault(named, bounds, wrong), plain_fault(named, bounds, wrong))
 
     def test_keys_in_another_sequence(self):
         turned = dict(reversed(BOUNDS.items())), dict(reversed(WAITS.items()))

@@ -13,7 +13,7 @@ def need_net(value):
 
 def is_place(net, value):
     """Whether the value is dawn or an event of the net."""
-    return isinstance(value, str) and (value == DAWN or value in net)
+    return value == DAWN or value in net
 
 
 def need_place(net, value):

@@ -180,7 +180,7 @@ def _told_rows(lasts, works, bounds):
 
 def _is_about(lot, value):
     """Whether the value is a dict whose keys are names of the lot."""
-    return isinstance(value, dict) and all([isinstance(name, str) and name in lot for name in value])
+    return isinstance(value, dict) and all([name in lot for name in value])
 
 
 def _renamed_lot(lot, names):

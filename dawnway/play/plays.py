@@ -158,7 +158,7 @@ def _is_step(net, done, tick, step):
     if not is_pair(step) or not isinstance(step[0], tuple):
         return False
     deeds, again = step
-    if not all([isinstance(deed, str) and deed in net.deeds and deed not in done for deed in deeds]):
+    if not all([deed in net.deeds and deed not in done for deed in deeds]):
         return False
     return is_ascending(deeds) and (again is None or is_between(again, tick + 1, _MAX_AGAIN))
 
@@ -184,19 +184,19 @@ def _next_lengths(ranges, lengths):
 
 def _run_of(net, course, rounds):
     """The run in which the deeds of the rounds come, or None if they are not of the form of rounds."""
-    if not isinstance(rounds, tuple):
+    if not isinstance(rounds, tuple) or not all([_is_round(item) for item in rounds]):
         return None
     run = Run(net, course)
-    done = {}
-    for item in rounds:
-        if not isinstance(item, tuple) or len(item) != 3 or not is_tick(item[0]) or not isinstance(item[2], tuple):
-            return None
-        for deed in item[2]:
-            if not isinstance(deed, str) or deed not in net.deeds or deed in done:
-                return None
-            done[deed] = True
-            run.begin(deed, item[0])
+    for tick, _, deeds in rounds:
+        for deed in deeds:
+            run.begin(deed, tick)
     return run
+
+
+def _is_round(value):
+    if not isinstance(value, tuple) or len(value) != 3:
+        return False
+    return is_tick(value[0]) and isinstance(value[2], tuple)
 
 
 def _need_way(way):

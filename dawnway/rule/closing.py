@@ -50,9 +50,7 @@ class Closing:
         return bounds, waits
 
     def as_list(self):
-        """The lines that lead to the bound below 0, or None if there is none."""
-        if self._last is None:
-            return None
+        """The lines that lead to the bound below 0, if there is one."""
         used = {self._last: True}
         for index in range(self._last, -1, -1):
             if index in used:
@@ -68,43 +66,30 @@ class Closing:
         return (kind, self._events[one], second, number), told
 
     def _close(self):
-        self._tell()
+        for word in self._net.told:
+            _, first, second, most = self._net.row(word)
+            self._take(self._places[first], self._places[second], most, word)
+        # Over dawn each two events get a bound. So a told one that is far below 0 meets one that
+        # leads back at once, and no sum becomes too long.
+        self._join_over(self._places[DAWN])
         for mid in self._every:
             self._join_over(mid)
         changed = True
-        while changed and self._last is None:
+        while changed:
             self._all_early()
             for work in range(len(self._works)):
                 self._wait(work)
             changed = self._all_sure()
 
-    def _tell(self):
-        """Begins with the told rows; each two events have a bound before the named ones are looked at.
-
-        So a bound that is far below 0 meets one that leads back at once, and no sum becomes too long.
-        """
-        words = self._net.told
-        for word in words:
-            if word[0] in ("last", "begin"):
-                self._tell_row(word)
-        self._join_over(self._places[DAWN])
-        for word in words:
-            if word[0] not in ("last", "begin"):
-                self._tell_row(word)
-
-    def _tell_row(self, word):
-        _, first, second, most = self._net.row(word)
-        one, other = self._places[first], self._places[second]
-        if self._last is None and most < self._sums[one][other]:
-            self._take(one, other, most, word)
-
     def _take(self, one, other, number, why):
-        """Takes a bound that is less than the one that is there."""
+        """Takes a bound if it is less than the one that is there, and none has come to be below 0."""
+        if self._last is not None or number >= self._sums[one][other]:
+            return False
         index = len(self._lines)
         self._lines.append((("bound", one, other, number), why))
         if one == other:
             self._last = index
-            return
+            return True
         self._sums[one][other] = number
         self._origins[one][other] = index
         back = self._sums[other][one]
@@ -112,6 +97,7 @@ class Closing:
             row = ("bound", one, one, max(_LEAST, number + back))
             self._lines.append((row, ("joined", index, self._origins[other][one])))
             self._last = index + 1
+        return True
 
     def _take_wait(self, work, at, number, why):
         """Takes a wait that is greater than the one that is there."""
@@ -122,9 +108,7 @@ class Closing:
     def _join_over(self, mid):
         """Makes the bounds that lead over one event."""
         for one in self._every:
-            if self._last is not None:
-                return
-            if one != mid and self._sums[one][mid] < _FAR:
+            if self._last is None:
                 self._join(one, mid)
 
     def _join(self, one, mid):
@@ -132,37 +116,40 @@ class Closing:
         step = self._sums[one][mid]
         here = self._sums[one]
         onward = self._sums[mid]
-        better = [at for at in self._every if step + onward[at] < here[at]]
-        for at in better:
+        for at in [at for at in self._every if step + onward[at] < here[at]]:
             self._take(one, at, step + onward[at], ("joined", self._origins[one][mid], self._origins[mid][at]))
-            if self._last is not None:
-                return
+
+    def _join_back(self, mid, other):
+        """Makes the bounds to one event that lead over another one."""
+        step = self._sums[mid][other]
+        for at in [at for at in self._every if self._sums[at][mid] + step < self._sums[at][other]]:
+            number = self._sums[at][mid] + step
+            self._take(at, other, number, ("joined", self._origins[at][mid], self._origins[mid][other]))
 
     def _all_early(self):
         """Makes bounds by `early` and `joined` until neither makes a lesser one."""
         changed = True
-        while changed and self._last is None:
+        while changed:
             changed = False
             for work in range(len(self._works)):
-                if self._last is None and self._early(work):
+                if self._early(work):
                     changed = True
 
     def _early(self, work):
         """Makes the bounds of one work by `early`, and those that they make by `joined`."""
         begin, end, least, _, look = self._works[work]
-        here = self._sums[begin]
         ahead = self._sums[end]
-        better = [at for at in self._every if at != end and ahead[at] < look and least + ahead[at] < here[at]]
-        for at in better:
-            if self._last is None:
-                self._take(begin, at, least + ahead[at], ("early", self._origins[end][at]))
+        taken = []
+        for at in self._every:
+            if at != end and ahead[at] < look:
+                if self._take(begin, at, least + ahead[at], ("early", self._origins[end][at])):
+                    taken.append(at)
         # All that was there is joined already: it is enough to go on from the new bounds once.
-        for mid in better:
-            if self._last is None:
-                self._join(begin, mid)
-        if better != []:
+        for mid in taken:
+            self._join(begin, mid)
+        if taken != []:
             self._join_over(begin)
-        return better != []
+        return taken != []
 
     def _wait(self, work):
         """Makes the waits for one work until no rule makes a greater one of these bounds."""
@@ -200,26 +187,24 @@ class Closing:
         """Makes bounds by `sure` and `joined`; whether there was a lesser one."""
         changed = False
         for work in range(len(self._works)):
-            if self._last is None and self._sure(work):
+            if self._sure(work):
                 changed = True
         return changed
 
     def _sure(self, work):
         """Makes the bounds of one work by `sure`, and those that they make by `joined`."""
         begin, end, least, _, look = self._works[work]
-        told = [-min(wait, least + look) for wait in self._waits[work]]
-        better = [at for at in self._every if at != end and told[at] < self._sums[at][begin]]
-        for at in better:
-            if self._last is None:
-                self._take(at, begin, told[at], ("sure", self._reasons[work][at]))
-        for mid in better:
-            for at in self._every:
-                found = self._sums[at][mid] + self._sums[mid][begin]
-                if self._last is None and found < self._sums[at][begin]:
-                    self._take(at, begin, found, ("joined", self._origins[at][mid], self._origins[mid][begin]))
-        if better != []:
+        taken = []
+        for at in self._every:
+            if at != end:
+                number = -min(self._waits[work][at], least + look)
+                if self._take(at, begin, number, ("sure", self._reasons[work][at])):
+                    taken.append(at)
+        for mid in taken:
+            self._join_back(mid, begin)
+        if taken != []:
             self._join_over(begin)
-        return better != []
+        return taken != []
 
 
 def _placed_works(net, places):

@@ -38,7 +38,7 @@ def covers(net, row, other):
 def made(net, rule, row, *, other=None):
     """The row that a rule makes, or None if it makes none, or one with too long a number."""
     need_net(net)
-    if not isinstance(rule, str) or rule not in RULES:
+    if rule not in RULES:
         raise InvalidOperation("no rule")
     _need_row(net, row)
     if taken_by(rule) == 2:
