@@ -57,6 +57,14 @@ def plain_fault(net, bounds, waits):
     return min(faults, default=None)
 
 
+# Of these nets with three works, the closure has waits by `late`, or by `both`, or waits that hang on
+# bounds that were made by other waits; or the list has such.
+CLOSED_LATE = (10, 13, 91, 128, 152, 155, 164, 167, 186, 252, 256, 263, 274, 380, 412, 418, 462, 515, 516, 517)
+CLOSED_BOTH = (58, 60, 62, 130, 138, 347, 521, 568, 570, 712, 802)
+CLOSED_AGAIN = (107, 683, 893, 1468, 1546)
+LISTED_LATE = (43, 175, 304, 319, 474, 564, 586, 651, 675, 697, 714, 816)
+
+
 class FormTest(unittest.TestCase):
     def test_forms(self):
         for value in ((BOUNDS, WAITS), ({}, {}), ({("land", "dawn"): FAR}, {}), ({}, {("dawn", "fly"): -FAR}),
@@ -120,6 +128,14 @@ class ClosureTest(unittest.TestCase):
         for seed in range(80):
             net = crossed_net(seed, works=3, bounds=1 + seed % 3, horizon=14, longest=5, look=4)
             self.assertTrue(is_same(closure(net), closure_by_adding(net, seed)), seed)
+
+    def test_waits_by_late_and_by_both(self):
+        for seeds in (CLOSED_LATE, CLOSED_BOTH, CLOSED_AGAIN, LISTED_LATE):
+            for seed in seeds:
+                net = crossed_net(seed, works=3, bounds=2)
+                self.assertTrue(is_same(closure(net), closure_by_adding(net, seed)), seed)
+                self.assertIs(is_answer(net, answer(net)), True)
+                self.assertIs(is_safe(net), seeds != LISTED_LATE)
 
     def test_each_rule_stands_in_some_list(self):
         words = set()
@@ -402,7 +418,7 @@ class StatementsTest(unittest.TestCase):
 
     def test_who_walks_a_table_keeps_it(self):
         walked = 0
-        for net in nets(150):
+        for net in nets(150) + [crossed_net(seed, works=3, bounds=2) for seed in (*CLOSED_LATE[:6], *CLOSED_BOTH[:6])]:
             table = closure(net)
             if table is None:
                 continue

@@ -5,7 +5,7 @@ can hang on it. Events and works are told by indices here, as this is the part t
 """
 
 from dawnway.base.names import DAWN
-from dawnway.rule.rows import indices_of
+from dawnway.rule.rows import lines_under
 
 # No bound has such a number: it stands for none, and its opposite for no wait.
 _FAR = 10 ** 41
@@ -20,14 +20,14 @@ class Closing:
         self._net = net
         self._events = sorted([DAWN, *net.events])
         self._places = {event: at for at, event in enumerate(self._events)}
-        self._size = len(self._events)
-        self._every = list(range(self._size))
+        size = len(self._events)
+        self._every = list(range(size))
         self._works = _placed_works(net, self._places)
         self._names = list(net.works)
-        self._sums = [[_FAR] * self._size for _ in self._every]
-        self._origins = [[None] * self._size for _ in self._every]
-        self._waits = [[-_FAR] * self._size for _ in self._works]
-        self._reasons = [[None] * self._size for _ in self._works]
+        self._sums = [[_FAR] * size for _ in self._every]
+        self._origins = [[None] * size for _ in self._every]
+        self._waits = [[-_FAR] * size for _ in self._works]
+        self._reasons = [[None] * size for _ in self._works]
         self._lines = []
         self._last = None
         for at in self._every:
@@ -51,13 +51,9 @@ class Closing:
 
     def as_list(self):
         """The lines that lead to the bound below 0, if there is one."""
-        used = {self._last: True}
-        for index in range(self._last, -1, -1):
-            if index in used:
-                for earlier in indices_of(self._lines[index][1]):
-                    used[earlier] = True
-        places = {index: at for at, index in enumerate(sorted(used))}
-        return tuple([self._told_line(places, index) for index in sorted(used)])
+        used = lines_under(self._lines, self._last)
+        places = {index: at for at, index in enumerate(used)}
+        return tuple([self._told_line(places, index) for index in used])
 
     def _told_line(self, places, index):
         (kind, one, other, number), why = self._lines[index]
@@ -116,13 +112,15 @@ class Closing:
         step = self._sums[one][mid]
         here = self._sums[one]
         onward = self._sums[mid]
-        for at in [at for at in self._every if step + onward[at] < here[at]]:
+        better = [at for at in self._every if step + onward[at] < here[at]]
+        for at in better:
             self._take(one, at, step + onward[at], ("joined", self._origins[one][mid], self._origins[mid][at]))
 
     def _join_back(self, mid, other):
         """Makes the bounds to one event that lead over another one."""
         step = self._sums[mid][other]
-        for at in [at for at in self._every if self._sums[at][mid] + step < self._sums[at][other]]:
+        better = [at for at in self._every if self._sums[at][mid] + step < self._sums[at][other]]
+        for at in better:
             number = self._sums[at][mid] + step
             self._take(at, other, number, ("joined", self._origins[at][mid], self._origins[mid][other]))
 

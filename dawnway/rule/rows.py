@@ -75,17 +75,19 @@ def used_lines(net, lines):
     """The indices of the lines on which the last one hangs, itself among them."""
     if not is_list(net, lines):
         raise InvalidOperation("no list of the net")
-    used = {len(lines) - 1: True}
-    for index in range(len(lines) - 1, -1, -1):
+    return tuple(lines_under(lines, len(lines) - 1))
+
+
+def lines_under(lines, last):
+    """The ascending indices of the lines on which a line hangs, itself among them."""
+    used = {last: True}
+    for index in range(last, -1, -1):
         if index in used:
-            for earlier in indices_of(lines[index][1]):
-                used[earlier] = True
-    return tuple(sorted(used))
-
-
-def indices_of(why):
-    """The indices of earlier lines that the reason of a line tells."""
-    return [part for part in why[1:] if not isinstance(part, str)]
+            _, why = lines[index]
+            for part in why[1:]:
+                if not isinstance(part, str):
+                    used[part] = True
+    return sorted(used)
 
 
 def _need_row(net, value):
