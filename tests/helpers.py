@@ -5,8 +5,14 @@ from itertools import combinations, product
 
 from dawnway.errors import DayError, UnknownName
 from dawnway.net.nets import Net
+from dawnway.parts.belts import Belt
+from dawnway.parts.days import Day
+from dawnway.parts.hands import Crew
+from dawnway.parts.lanes import Lane
 from dawnway.play.plays import Play, each_course
 from dawnway.rule.rows import covers, made
+from dawnway.rule.tables import closure
+from dawnway.walk.walks import Walk
 
 DAY = Net(
     {"board": 60, "land": 40, "off": 60},
@@ -50,6 +56,20 @@ LATE = Net(
     {"w": ("dawn", "e", 2, 5, 3)},
     {"near": ("e", "a", 2), "behind": ("a", "e", 0)},
 )
+STAND = Net(
+    {"ina": 50, "inb": 50, "outa": 50, "outb": 50},
+    {},
+    {"staya": ("outa", "ina", -3), "stayb": ("outb", "inb", -2)},
+)
+PLACED = Day(
+    STAND,
+    ("s1",),
+    uses={"a": ("s1", "ina", "outa", "big"), "b": ("s1", "inb", "outb", "small")},
+    gaps={("s1", "big", "small"): 2},
+)
+CREW = Crew(((0, 4, "a"), (5, 9, "a"), (5, 8, "b"), (9, 12, "b")), walks={("a", "b"): 2, ("b", "a"): 2})
+BELT = Belt({"x": (0, 2), "y": (3, 3)}, (("x", 1, 2, 3, 5), ("y", 0, 1, 2, 1)), room=2)
+LANE = Lane(((0, 4, 6), (3, 9, 4)), opens=2)
 
 
 def odd_values():
@@ -63,6 +83,7 @@ def odd_values():
         [], [()], ["a"], [[[[[[[[]]]]]]]], ((((((((),),),),),),),), {}, {1: 2}, {"a": 1}, {"a": True}, {None: None},
         {("a", "b"): 1}, {"fly": 17}, {"fly": [17]}, {True: 1, "a": 2}, {(): {}},
         DAY, BARE, Play(BARE, {}, ()), DayError("x"), UnknownName("x"),
+        Walk(DAY, *closure(DAY)), PLACED, CREW, BELT, LANE,
     ]
 
 
@@ -83,6 +104,16 @@ def shown(value):
         return f"net {shown((value.lasts, value.works, value.bounds))}"
     if isinstance(value, Play):
         return f"play {shown((value.net, value.course, value.rounds))}"
+    if isinstance(value, Walk):
+        return f"walk {shown((value.net, value.tick, value.seen, value.under_way, value.next()))}"
+    if isinstance(value, Day):
+        return f"day {shown((value.net, value.places, value.uses, value.gaps, value.promises))}"
+    if isinstance(value, Crew):
+        return f"crew {shown((value.tasks, value.walks))}"
+    if isinstance(value, Belt):
+        return f"belt {shown((value.flights, value.lots, value.room))}"
+    if isinstance(value, Lane):
+        return f"lane {shown((value.rows, value.opens, value.pace))}"
     if isinstance(value, dict):
         return "{" + ", ".join(f"{shown(key)}: {shown(value[key])}" for key in value) + "}"
     if isinstance(value, (list, tuple)):

@@ -5,15 +5,24 @@ from itertools import combinations
 
 from dawnway.base import names
 from dawnway.errors import (
-    InvalidCourse, InvalidName, InvalidNet, InvalidNumber, InvalidOperation, InvalidRow, InvalidTable, InvalidWay,
-    UnknownName,
+    InvalidCourse, InvalidDay, InvalidDeal, InvalidName, InvalidNet, InvalidNumber, InvalidOperation, InvalidRow,
+    InvalidTable, InvalidWay, UnknownName,
 )
 from dawnway.net import least, nets, times
 from dawnway.net.nets import Net
+from dawnway.parts import ahead, days, deals, hands, lanes
+from dawnway.parts.belts import Belt
+from dawnway.parts.days import Day
+from dawnway.parts.hands import Crew
+from dawnway.parts.lanes import Lane
 from dawnway.play import plays
 from dawnway.play.plays import Play
 from dawnway.rule import rows, tables
-from tests.helpers import BARE, CHAIN, DAY, HARD, LINES, are_keys_ascending, is_same, odd_values, shown
+from dawnway.walk import against, walks
+from dawnway.walk.walks import Walk
+from tests.helpers import (
+    BARE, BELT, CHAIN, CREW, DAY, HARD, LANE, LINES, PLACED, STAND, are_keys_ascending, is_same, odd_values, shown,
+)
 
 NO_NET = (InvalidNet, None, [None, True, 5, "net", (), {}, [DAY], {"a": 1}, Play(BARE, {}, ())])
 NO_PLACE = (UnknownName, "wanted", ["x", "fly", "", None, True, 0, ["land"], ("land",), {}, 10 ** 59, DAY])
@@ -33,6 +42,27 @@ NO_WAITS = (InvalidTable, None, [None, (), [], {1: 1}, {("land", "fly"): 1}, {("
 NOT_BARE = (InvalidOperation, None, [DAY, HARD, CHAIN])
 NO_TIMES = (InvalidOperation, None, [None, (), {"dawn": 1}, {"x": 1}, {"land": True}, {"land": -1}, {1: 1}, 5, DAY])
 NO_DICT = (InvalidOperation, None, [None, (), [], "x", 5, True, DAY])
+NO_TABLE = (InvalidTable, None, [None, (), [], "x", 5, {1: 1}, {("land", "land"): 1}, {("land", "off"): True}, {}, DAY])
+NO_PLAY = (InvalidOperation, None, [None, (), {}, "play", 5, Play(BARE, {}, ()), DAY])
+NO_INDEX = (InvalidNumber, "given", [-1, 3, 10 ** 59, True, None, "0", (0,), [0], {}, DAY])
+NO_WORD = (InvalidOperation, None, [None, (), "soon", ("bound", "x"), ["bound", "soon"], {}, 5, DAY])
+NO_DEED_TIMES = (InvalidOperation, None, [None, (), {}, {"board": 3}, {"board": 3, "off": True}, {"board": 3, "off": 4, "land": 5}, 5, DAY])
+NO_DAY = (InvalidDay, None, [None, True, 5, "day", (), {}, [PLACED], {"a": 1}, DAY, CREW])
+NO_DEAL = (InvalidDeal, None, [None, (), {}, "x", 5, {"s1": ("a",)}, {"s1": ["a", "b"]}, {"s1": ("a", "b"), "x": ()}, DAY])
+NO_EVENT_TICKS = (InvalidOperation, None, [None, (), "x", 5, {"dawn": 0}, {"ina": True}, {"x": 1}, {1: 1}, DAY])
+NO_CASE = (InvalidOperation, None, [None, [], "x", 5, (("a", "a"),), (("a", "x"),), ("a", "b"), (["a", "b"],), {}, DAY])
+NO_PLACES = (InvalidDay, None, [None, [], "s1", 5, ("s1", "s1"), ("s1", 1), {}, DAY])
+NO_DAY_DICT = (InvalidDay, None, [None, [], "x", 5, {1: 1}, {"a": None}, DAY])
+NO_TASKS = (InvalidDay, None, [None, [], "x", 5, ((4, 4, "a"),), ((0, 4),), ((True, 4, "a"),), {}, DAY])
+NO_NUMBER = (InvalidNumber, "given", [-1, True, "1", (1,), [1], {}, 10 ** 40, 10 ** 59, DAY])
+NO_NAMED = (UnknownName, "wanted", ["x", "", None, True, 0, ["a"], ("a",), {}, 10 ** 59, DAY])
+NO_TASK = (InvalidNumber, "given", [-1, 4, True, None, "0", (0,), [0], {}, 10 ** 59, DAY])
+NO_ANSWER = (InvalidTable, None, [None, (), {}, "x", 5, ("list", ()), ("table", {}, {}, 1), ["table", {}, {}], ("table", {1: 1}, {}), DAY])
+NO_READY = (InvalidOperation, None, [None, (), {}, "x", 5, {"x": 1}, {"x": True, "y": 3}, {"x": 1, "y": 4}, {1: 1}, DAY])
+NO_STRETCH = (InvalidOperation, None, [None, (), "x", 5, (4, 3), (1, True), [1, 2], (-1, 2), (1, 2, 3), {}, DAY])
+NO_DESKS = (InvalidNumber, "given", [-1, 10 ** 9 + 1, True, None, "1", (1,), [1], {}, 10 ** 59, DAY])
+NO_ROOM = (InvalidNumber, "given", [0, -1, 401, True, None, "1", (1,), [1], {}, 10 ** 59, DAY])
+NO_COMING = (InvalidOperation, None, [None, (), {}, "x", 5, ((0, 10),), ((0, 6), (4, True)), [(0, 6), (4, 4)], DAY])
 FREE = None
 
 
@@ -44,6 +74,12 @@ def still(tick, seen):
 BOUNDS, WAITS = tables.closure(DAY)
 SEEN = ((0, "on"), (3, "off"))
 EARLY = {"board": 15, "land": 10, "off": 25}
+NEAR = {"ina": 0, "inb": 5, "outa": 3, "outb": 7}
+DEAL = {"s1": ("a", "b")}
+ANSWER = ("table", BOUNDS, WAITS)
+READY = {"x": 2, "y": 3}
+WALK = Walk(DAY, BOUNDS, WAITS)
+BUSY = plays.play(HARD, still, {"fly": 17})
 
 # Each call: the function, right arguments, and for each argument the errors of wrong ones, in their order.
 CALLS = [
@@ -93,6 +129,77 @@ CALLS = [
     (tables.closure, (DAY,), [[NO_NET]]),
     (tables.tightest, (DAY, "land", "off"), [[NO_NET], [NO_PLACE], [NO_PLACE]]),
     (tables.needed_wait, (DAY, "off", "fly"), [[NO_NET], [NO_PLACE], [NO_WORK]]),
+    (lambda net, bounds, waits: walks.walk_way(net, bounds, waits)(3, ()), (DAY, BOUNDS, WAITS), [[NO_NET], [NO_TABLE], [NO_TABLE]]),
+    (walks.free_deeds, (DAY, BOUNDS, WAITS, 17, ((12, "land"),)), [[NO_NET], [NO_TABLE], [NO_TABLE], [NO_TICK], [NO_SEEN]]),
+    (walks.walked, (DAY, BOUNDS, WAITS, {"fly": 17}), [[NO_NET], [NO_TABLE], [NO_TABLE], [NO_COURSE]]),
+    (Walk, (DAY, BOUNDS, WAITS), [[NO_NET], [NO_TABLE], [NO_TABLE]]),
+    (WALK.next, (), []),
+    (WALK.at, (12, "land"), [[NO_TICK], [(InvalidOperation, None, [None, "off", "x", ["land"], ("land",), {}, 5, DAY])]]),
+    (against.broken_lines, (HARD, LINES, BUSY), [[NO_NET], [NO_LIST], [NO_PLAY]]),
+    (against.followed, (HARD, LINES, still, {"fly": 17}, 2), [[NO_NET], [NO_LIST], [NO_WAY], [NO_COURSE], [NO_INDEX]]),
+    (lambda net, lines, way, course: against.course_against(net, lines, way, course=course), (HARD, LINES, still, {"fly": 17}),
+     [[NO_NET], [NO_LIST], [NO_WAY], [(InvalidCourse, None, [(), {}, {"fly": True}, {"fly": 9}, 5, DAY])]]),
+    (against.is_beaten, (HARD, still, ({"fly": 17}, ("last", "off"))), [[NO_NET], [NO_WAY], FREE]),
+    (ahead.firm_row, (DAY, ("bound", "walk")), [[NO_NET], [NO_WORD]]),
+    (ahead.ahead_paper, (DAY,), [[NO_NET]]),
+    (ahead.is_ahead_paper, (DAY, ("times", {"board": 35, "off": 45})), [[NO_NET], FREE]),
+    (ahead.are_firm, (DAY, {"board": 35, "off": 45}), [[NO_NET], FREE]),
+    (ahead.earliest_times, (DAY.without("crew"),), [[NO_NET]]),
+    (ahead.windows, (DAY, {"board": 35, "off": 45}), [[NO_NET], [NO_DEED_TIMES]]),
+    (lambda net, places, uses, gaps, promises: Day(net, places, uses=uses, gaps=gaps, promises=promises),
+     (STAND, ("s1",), PLACED.uses, PLACED.gaps, {"staya": 3, "stayb": 4}),
+     [[NO_NET], [NO_PLACES], [NO_DAY_DICT], [NO_DAY_DICT], [NO_DAY_DICT]]),
+    (PLACED.uses_of, ("s1",), [[NO_NAMED]]),
+    (PLACED.gap, ("a", "b"), [[NO_NAMED], [NO_NAMED]]),
+    (PLACED.with_net, (STAND,), [[NO_NET]]),
+    (days.is_deal, (PLACED, DEAL), [[NO_DAY], FREE]),
+    (days.net_of, (PLACED, DEAL), [[NO_DAY], [NO_DEAL]]),
+    (days.torn_uses, (PLACED, {"outa": 3}), [[NO_DAY], [NO_EVENT_TICKS]]),
+    (days.clashes, (PLACED, NEAR), [[NO_DAY], [NO_EVENT_TICKS]]),
+    (days.deal_by, (PLACED, NEAR), [[NO_DAY], [NO_EVENT_TICKS]]),
+    (deals.net_of_case, (PLACED, (("a", "b"),)), [[NO_DAY], [NO_CASE]]),
+    (deals.is_safe, (PLACED, DEAL), [[NO_DAY], [NO_DEAL]]),
+    (deals.open_pairs, (PLACED,), [[NO_DAY]]),
+    (deals.deal_paper, (PLACED,), [[NO_DAY]]),
+    (deals.is_deal_paper, (PLACED, deals.deal_paper(PLACED)), [[NO_DAY], FREE]),
+    (lambda day, value, case: deals.is_tree(day, value, case=case), (PLACED, ("leaf", ()), (("a", "b"),)), [[NO_DAY], FREE, [NO_CASE]]),
+    (lambda day: list(deals.safe_deals(day)), (PLACED,), [[NO_DAY]]),
+    (lambda tasks, walks: Crew(tasks, walks=walks), (CREW.tasks, CREW.walks), [[NO_TASKS], [NO_DAY_DICT]]),
+    (CREW.can_follow, (1, 0), [[NO_TASK], [NO_TASK]]),
+    (CREW.walk, ("a", "b"), [[NO_NAMED], [NO_NAMED]]),
+    (CREW.fewest, (), []),
+    (CREW.rosters, (), []),
+    (CREW.crowd, (), []),
+    (CREW.paper, (1,), [[NO_NUMBER]]),
+    (CREW.is_paper, (1, ("crowd", (1, 2))), [[NO_NUMBER], FREE]),
+    (lambda value, longest, rest: CREW.are_rosters(value, longest=longest, rest=rest), (((0, 1), (2, 3)), 9, 1), [FREE, [NO_NUMBER], [NO_NUMBER]]),
+    (lambda answer, rows, walks: hands.crew_by(answer, rows, walks=walks), (ANSWER, (("land", "off", "g"), ("off", "land", "h")), {("g", "h"): 2}),
+     [[NO_ANSWER], [NO_TASKS], [NO_DAY_DICT]]),
+    (lambda flights, lots, room: Belt(flights, lots, room=room), (BELT.flights, BELT.lots, 2),
+     [[(InvalidDay, None, [None, (), "x", 5, {1: 1}, {"x": (2, 1)}, DAY])], [NO_TASKS], [NO_ROOM]]),
+    (BELT.are_ready, (READY,), [FREE]),
+    (BELT.window, (READY, 1), [[NO_READY], [NO_TASK]]),
+    (BELT.excess, (READY, (3, 4)), [[NO_READY], [NO_STRETCH]]),
+    (BELT.worst, (), []),
+    (BELT.is_worst, ((1, READY, (3, 4)),), [FREE]),
+    (BELT.paper, (READY,), [[NO_READY]]),
+    (BELT.is_paper, (READY, ("over", (3, 4))), [[NO_READY], FREE]),
+    (BELT.is_plan, (READY, ((3, 0, 1),)), [[NO_READY], FREE]),
+    (BELT.least_paper, (READY,), [[NO_READY]]),
+    (BELT.is_least_paper, (READY, BELT.least_paper(READY)), [[NO_READY], FREE]),
+    (BELT.worth_left, (READY,), [[NO_READY]]),
+    (BELT.least_room, (), []),
+    (lambda rows, opens, pace: Lane(rows, opens=opens, pace=pace), (LANE.rows, 2, 1),
+     [[NO_TASKS], [NO_TICK], [(InvalidNumber, "given", [0, -1, True, None, "1", (1,), [1], 10 ** 59, DAY])]]),
+    (LANE.most_in, (3, 4), [[NO_TICK], [NO_TICK]]),
+    (LANE.is_coming, (((0, 6), (4, 4)),), [FREE]),
+    (LANE.coming, (3, 4), [[NO_TICK], [NO_TICK]]),
+    (LANE.left_by, (((0, 6), (4, 4)), 2), [[NO_COMING], [NO_DESKS]]),
+    (LANE.longest_queue, (2,), [[NO_DESKS]]),
+    (LANE.longest_wait, (2,), [[NO_DESKS]]),
+    (lambda queue, wait: LANE.fewest_desks(queue=queue, wait=wait), (7, 2), [[NO_NUMBER], [NO_NUMBER]]),
+    (lambda answer, rows, opens, pace: lanes.lane_by(answer, rows, opens=opens, pace=pace), (ANSWER, (("land", 0, 5, 7),), 2, 1),
+     [[NO_ANSWER], [NO_TASKS], [NO_TICK], [(InvalidNumber, "given", [0, -1, True, None, "1", (1,), [1], 10 ** 59, DAY])]]),
     (DAY.row, (("bound", "walk"),), [[NO_DICT]]),
     (DAY.work_of, ("land",), [[NO_PLACE]]),
     (DAY.road, ("land",), [[NO_PLACE]]),
@@ -142,7 +249,7 @@ class CallsTest(unittest.TestCase):
             given = own(right)
             told = call(*given)
             self.assertEqual(shown(given), shown(right))
-            if not isinstance(told, (Net, Play)):
+            if not isinstance(told, (Net, Play, Walk, Day, Crew, Belt, Lane)):
                 self.assertTrue(are_keys_ascending(told))
             again = shown(told)
             self.assertEqual(shown(call(*turned(given))), again)
@@ -177,7 +284,7 @@ class CallsTest(unittest.TestCase):
 
     def test_judging_functions_accept_every_value(self):
         for call, right, errors in CALLS:
-            if call.__name__.startswith(("is_", "are_", "list_")) and len(right) == 2:
+            if call.__name__.startswith(("is_", "are_", "list_")) and len(right) <= 2 and FREE in errors:
                 for value in odd_values():
                     for held in (value, (value,), (value, value), ("times", value), ("table", value, value), {"land": value}):
                         before = shown(held)

@@ -58,6 +58,88 @@ Stage 7
 [True, 'table', -15, 35, 50]
 >>> [answer(HARD)[0], closure(HARD), is_answer(HARD, ("list", LINES)), table_fault(DAY, {}, {})]
 ['list', None, True, ('told', ('bound', 'crew'))]
+
+Stage 8
+>>> from dawnway.walk.walks import Walk, free_deeds, walk_way, walked
+>>> bounds, waits = closure(DAY)
+>>> [walked(DAY, bounds, waits, {"fly": 17}).times, walked(DAY, bounds, waits, {"fly": 30}).times, walked(DAY, bounds, waits, {"fly": 30}).broken]
+[{'board': 22, 'land': 17, 'off': 32}, {'board': 35, 'land': 30, 'off': 45}, ()]
+>>> START = Walk(DAY, bounds, waits)
+>>> [START.next(), START.at(12, "land").next(), START.at(12, "land").seen, free_deeds(DAY, bounds, waits, 16, ((12, "land"),)), free_deeds(DAY, bounds, waits, 17, ((12, "land"),))]
+[(35, ('board',)), (17, ('board',)), ((12, 'land'),), (), ('board',)]
+
+Stage 9
+>>> from dawnway.walk.against import broken_lines, course_against, followed, is_beaten
+>>> [course_against(HARD, LINES, lambda tick, seen: ((), 60) if tick < 60 else (("board", "off"), None))[1], course_against(HARD, LINES, lambda tick, seen: ((), None) if seen == () else (("board", "off"), None))[1]]
+[('bound', 'soon'), ('bound', 'walk')]
+>>> [is_beaten(HARD, lambda tick, seen: ((), None) if seen == () else (("board", "off"), None), ({"fly": 10}, word)) for word in (("bound", "walk"), ("bound", "soon"))]
+[True, False]
+
+Stage 10
+>>> from dawnway.parts.ahead import ahead_paper, are_firm, earliest_times, firm_row, is_ahead_paper, windows
+>>> LASTS, ROOM = {"go": 20, "land": 40, "open": 40}, {"soon": ("land", "open", 6), "behind": ("open", "land", -1)}
+>>> FLY, LONG = Net(LASTS, {"fly": ("go", "land", 5, 9, 0)}, ROOM), Net(LASTS, {"fly": ("go", "land", 5, 11, 0)}, ROOM)
+>>> [FLY.road("land"), earliest_times(FLY), windows(FLY, {"go": 0, "open": 10}), earliest_times(LONG)]
+[('go', ('fly',)), {'go': 0, 'open': 10}, {'go': (0, 0), 'land': (5, 9), 'open': (10, 10)}, None]
+>>> [firm_row(LONG, ("bound", "soon")), firm_row(LONG, ("bound", "behind")), are_firm(FLY, {"go": 3, "open": 14}), are_firm(FLY, {"go": 3, "open": 15})]
+[('go', 'open', 11), ('open', 'go', -12), True, False]
+>>> [is_ahead_paper(LONG, ("ring", (("bound", "soon"), ("bound", "behind")))), is_ahead_paper(LONG, ("ring", (("bound", "soon"),)))]
+[True, False]
+
+Stage 11
+>>> from dawnway.parts.days import Day, clashes, deal_by, is_deal, net_of, torn_uses
+>>> STAND = Net({"ina": 50, "inb": 50, "outa": 50, "outb": 50}, {}, {"staya": ("outa", "ina", -3), "stayb": ("outb", "inb", -2)})
+>>> DAY = Day(STAND, ("s1",), uses={"a": ("s1", "ina", "outa", "big"), "b": ("s1", "inb", "outb", "small")}, gaps={("s1", "big", "small"): 2})
+>>> [DAY.gap("a", "b"), DAY.gap("b", "a"), net_of(DAY, {"s1": ("a", "b")}).bounds["gap.0"], net_of(DAY, {"s1": ("b", "a")}).bounds["gap.0"]]
+[2, 0, ('inb', 'outa', -2), ('ina', 'outb', 0)]
+>>> NEAR, FAR = {"ina": 0, "outa": 3, "inb": 4, "outb": 6}, {"ina": 0, "outa": 3, "inb": 5, "outb": 7}
+>>> [clashes(DAY, NEAR), clashes(DAY, FAR), deal_by(DAY, FAR), torn_uses(DAY, {"outa": 3})]
+[(('a', 'b'),), (), {'s1': ('a', 'b')}, ('a',)]
+>>> [clashes(DAY, {"ina": 0, "inb": 9, "outb": 12}), clashes(DAY, {"inb": 0, "outb": 4, "ina": 4})]
+[(('a', 'b'),), ()]
+
+Stage 12
+>>> from dawnway.parts.deals import deal_paper, is_deal_paper, open_pairs, safe_deals
+>>> NARROW = DAY.with_net(Net({"ina": 1, "inb": 1, "outa": 4, "outb": 4}, {}, STAND.bounds))
+>>> FIRSTB = DAY.with_net(Net({"ina": 9, "inb": 1, "outa": 20, "outb": 9}, {}, STAND.bounds))
+>>> [list(safe_deals(DAY)), list(safe_deals(NARROW)), list(safe_deals(FIRSTB)), open_pairs(DAY), open_pairs(FIRSTB)]
+[[{'s1': ('a', 'b')}, {'s1': ('b', 'a')}], [], [{'s1': ('b', 'a')}], (('a', 'b'),), ()]
+>>> HEAD = ((("bound", "dawn", "inb", 1), ("last", "inb")), (("bound", "inb", "outa", -2), ("bound", "case.0")), (("bound", "dawn", "outa", -1), ("joined", 0, 1)))
+>>> AHEAD = (*HEAD, (("bound", "outa", "dawn", 0), ("begin", "outa")), (("bound", "dawn", "dawn", -1), ("joined", 2, 3)))
+>>> BEHIND = ((("bound", "dawn", "ina", 1), ("last", "ina")), (("bound", "ina", "outb", 0), ("bound", "case.0")), (("bound", "outb", "inb", -2), ("bound", "stayb")), (("bound", "ina", "inb", -2), ("joined", 1, 2)), (("bound", "dawn", "inb", -1), ("joined", 0, 3)), (("bound", "inb", "dawn", 0), ("begin", "inb")), (("bound", "dawn", "dawn", -1), ("joined", 4, 5)))
+>>> [is_deal_paper(NARROW, ("tree", ("case", "a", "b", ("leaf", AHEAD), ("leaf", BEHIND)))), is_deal_paper(NARROW, ("tree", ("case", "a", "b", ("leaf", BEHIND), ("leaf", AHEAD))))]
+[True, False]
+>>> deal_paper(FIRSTB)[:2]
+('deal', {'s1': ('b', 'a')})
+
+Stage 13
+>>> from dawnway.parts.hands import Crew
+>>> crew = Crew(((0, 4, "a"), (5, 9, "a"), (5, 8, "b"), (9, 12, "b")), walks={("a", "b"): 2, ("b", "a"): 2})
+>>> [crew.can_follow(1, 0), crew.can_follow(2, 0), crew.can_follow(3, 0), crew.can_follow(3, 1), crew.fewest(), crew.paper(1)[0]]
+[True, False, True, False, 2, 'crowd']
+>>> [crew.is_paper(2, ("rosters", ((0, 1), (2, 3)))), crew.is_paper(1, ("crowd", (1, 2))), crew.is_paper(1, ("crowd", (0, 1)))]
+[True, True, False]
+>>> [crew.are_rosters(((0, 1), (2, 3)), longest=9), crew.are_rosters(((0, 1), (2, 3)), longest=8), crew.are_rosters(((0, 1), (2, 3)), rest=1), crew.are_rosters(((0, 1), (2, 3)), rest=2)]
+[True, False, True, False]
+
+Stage 14
+>>> from dawnway.parts.belts import Belt
+>>> belt = Belt({"x": (0, 2), "y": (3, 3)}, (("x", 1, 2, 3, 5), ("y", 0, 1, 2, 1)), room=2)
+>>> [belt.worst(), belt.excess({"x": 1, "y": 3}, (2, 4)), belt.least_room()]
+[(1, {'x': 2, 'y': 3}, (3, 4)), -1, 3]
+>>> [belt.window({"x": 2, "y": 3}, 0), belt.paper({"x": 2, "y": 3}), belt.is_plan({"x": 1, "y": 3}, ((2, 0, 2), (3, 0, 1), (3, 1, 1), (4, 1, 1)))]
+[(3, 4), ('over', (3, 4)), True]
+>>> PAPER = (((3, 0, 2), (4, 0, 1), (4, 1, 1)), ((5, ()), (1, ((3, 4),))))
+>>> [belt.is_least_paper({"x": 2, "y": 3}, PAPER), belt.worth_left({"x": 2, "y": 3}), belt.is_least_paper({"x": 1, "y": 3}, PAPER)]
+[True, 1, False]
+
+Stage 15
+>>> from dawnway.parts.lanes import Lane
+>>> lane = Lane(((0, 4, 6), (3, 9, 4)), opens=2)
+>>> [lane.most_in(3, 4), lane.longest_queue(2)[0], lane.longest_queue(10)[0], lane.coming(3, 4), lane.is_coming(((4, 10),)), lane.is_coming(((5, 10),))]
+[10, 8, 6, ((4, 10),), True, False]
+>>> [lane.left_by(((0, 6), (4, 4)), 2), lane.fewest_desks(queue=7)[0], lane.fewest_desks(wait=1)]
+[((0, 6, 4), (4, 4, 2)), 3, None]
 '''
 
 
@@ -67,7 +149,7 @@ class ExamplesTest(unittest.TestCase):
         told = []
         result = doctest.DocTestRunner(verbose=False).run(test, out=told.append)
         self.assertEqual("".join(told), "")
-        self.assertEqual((result.attempted, result.failed), (27, 0))
+        self.assertEqual((result.attempted, result.failed), (72, 0))
 
 
 if __name__ == "__main__":

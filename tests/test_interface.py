@@ -31,6 +31,26 @@ FUNCTIONS = {
         "is_answer": "net, value", "is_safe": "net", "closure": "net", "tightest": "net, first, second",
         "needed_wait": "net, event, work",
     },
+    "dawnway.walk.walks": {
+        "walk_way": "net, bounds, waits", "free_deeds": "net, bounds, waits, tick, seen", "walked": "net, bounds, waits, course",
+    },
+    "dawnway.walk.against": {
+        "broken_lines": "net, lines, play", "followed": "net, lines, way, course, index",
+        "course_against": "net, lines, way, *, course=None", "is_beaten": "net, way, value",
+    },
+    "dawnway.parts.ahead": {
+        "firm_row": "net, word", "ahead_paper": "net", "is_ahead_paper": "net, value", "are_firm": "net, value",
+        "earliest_times": "net", "windows": "net, times",
+    },
+    "dawnway.parts.days": {
+        "is_deal": "day, value", "net_of": "day, deal", "torn_uses": "day, ticks", "clashes": "day, ticks", "deal_by": "day, ticks",
+    },
+    "dawnway.parts.deals": {
+        "net_of_case": "day, case", "is_safe": "day, deal", "open_pairs": "day", "deal_paper": "day",
+        "is_deal_paper": "day, value", "is_tree": "day, value, *, case=()", "safe_deals": "day",
+    },
+    "dawnway.parts.hands": {"crew_by": "answer, rows, *, walks=()"},
+    "dawnway.parts.lanes": {"lane_by": "answer, rows, *, opens=0, pace=1"},
 }
 CLASSES = {
     ("dawnway.net.nets", "Net"): {
@@ -43,10 +63,41 @@ CLASSES = {
         "__init__": "self, net, course, rounds", "seen_to": "self, tick", "is_broken": "self, row", "__len__": "self",
         "__eq__": "self, other", "__str__": "self",
     },
+    ("dawnway.walk.walks", "Walk"): {
+        "__init__": "self, net, bounds, waits", "next": "self", "at": "self, tick, *ends", "__len__": "self",
+        "__eq__": "self, other", "__str__": "self",
+    },
+    ("dawnway.parts.days", "Day"): {
+        "__init__": "self, net, places, *, uses=(), gaps=(), promises=()", "uses_of": "self, place", "gap": "self, one, other",
+        "with_net": "self, net", "__len__": "self", "__eq__": "self, other", "__str__": "self",
+    },
+    ("dawnway.parts.hands", "Crew"): {
+        "__init__": "self, tasks, *, walks=()", "can_follow": "self, task, other", "walk": "self, place, other", "fewest": "self",
+        "rosters": "self", "crowd": "self", "paper": "self, hands", "is_paper": "self, hands, value",
+        "are_rosters": "self, value, *, longest=None, rest=0", "__len__": "self", "__eq__": "self, other", "__str__": "self",
+    },
+    ("dawnway.parts.belts", "Belt"): {
+        "__init__": "self, flights, lots, *, room", "are_ready": "self, value", "window": "self, ready, lot",
+        "excess": "self, ready, stretch", "worst": "self", "is_worst": "self, value", "paper": "self, ready",
+        "is_paper": "self, ready, value", "is_plan": "self, ready, value", "least_paper": "self, ready",
+        "is_least_paper": "self, ready, value", "worth_left": "self, ready", "least_room": "self", "__len__": "self",
+        "__eq__": "self, other", "__str__": "self",
+    },
+    ("dawnway.parts.lanes", "Lane"): {
+        "__init__": "self, rows, *, opens=0, pace=1", "most_in": "self, first, last", "is_coming": "self, value",
+        "coming": "self, first, last", "left_by": "self, coming, desks", "longest_queue": "self, desks",
+        "longest_wait": "self, desks", "fewest_desks": "self, *, queue=None, wait=None", "__len__": "self",
+        "__eq__": "self, other", "__str__": "self",
+    },
 }
 PROPERTIES = {
     ("dawnway.net.nets", "Net"): ("lasts", "works", "bounds", "events", "deeds", "ends", "horizon", "told"),
     ("dawnway.play.plays", "Play"): ("net", "course", "rounds", "times", "broken", "is_whole"),
+    ("dawnway.walk.walks", "Walk"): ("net", "tick", "seen", "under_way"),
+    ("dawnway.parts.days", "Day"): ("net", "places", "uses", "gaps", "promises"),
+    ("dawnway.parts.hands", "Crew"): ("tasks", "walks"),
+    ("dawnway.parts.belts", "Belt"): ("flights", "lots", "room", "total"),
+    ("dawnway.parts.lanes", "Lane"): ("rows", "opens", "pace", "total"),
 }
 
 

@@ -12,6 +12,7 @@ CALLED = set(
     "len range enumerate zip min max sum abs sorted reversed int str bool list tuple dict set isinstance ord repr any all "
     "divmod property".split()
 )
+KEYWORDS = {("sorted", "key"), ("min", "default"), ("max", "default")}
 METHODS = set(
     "append clear copy count endswith extend find get index insert isalnum isalpha isdigit islower isspace isupper items "
     "join keys ljust lower lstrip partition pop remove replace reverse rfind rjust rpartition rsplit rstrip setdefault "
@@ -145,7 +146,7 @@ class LanguageTest(unittest.TestCase):
 
     def test_statements_and_expressions(self):
         barred = (
-            ast.Try, ast.With, ast.Global, ast.Nonlocal, ast.Lambda, ast.GeneratorExp, ast.Set, ast.SetComp, ast.Match,
+            ast.Try, ast.With, ast.Global, ast.Nonlocal, ast.GeneratorExp, ast.Set, ast.SetComp, ast.Match,
             ast.NamedExpr, ast.AsyncFunctionDef, ast.Await, ast.Div, ast.Mod, ast.AnnAssign, ast.Delete, ast.Assert,
         )
         for place, node in self.each(*barred):
@@ -159,6 +160,18 @@ class LanguageTest(unittest.TestCase):
                 if isinstance(operator, (ast.Is, ast.IsNot)):
                     self.assertTrue(isinstance(right, ast.Constant) and right.value in (None, True, False), place)
 
+    def test_lambdas(self):
+        lines = [(place, tuple(arg.arg for arg in node.args.args)) for place, node in self.each(ast.Lambda)]
+        self.assertEqual(len(lines), len(set(lines)))
+
+    def test_stars_in_calls(self):
+        for place, node in self.each(ast.Call):
+            for arg in node.args:
+                if isinstance(arg, ast.Starred) and isinstance(arg.value, ast.Attribute):
+                    self.assertIsInstance(arg.value.value, ast.Name, place)
+            for keyword in node.keywords:
+                self.assertIsNotNone(keyword.arg, place)
+
     def test_functions(self):
         for place, node in self.functions():
             self.assertIsNone(node.returns, place)
@@ -166,7 +179,10 @@ class LanguageTest(unittest.TestCase):
             for decorator in node.decorator_list:
                 self.assertTrue(isinstance(decorator, ast.Name) and decorator.id == "property", place)
             for inner in ast.walk(node):
-                self.assertFalse(isinstance(inner, ast.FunctionDef) and inner is not node, place)
+                # A nested function is a value that is returned: it changes nothing around it.
+                if isinstance(inner, ast.FunctionDef) and inner is not node:
+                    self.assertTrue(any(isinstance(last, ast.Return) and getattr(last.value, "id", "") == inner.name
+                                        for last in node.body), place)
             reads = [inner.id for inner in ast.walk(node) if isinstance(inner, ast.Name) and isinstance(inner.ctx, ast.Load)]
             self.assertNotIn("_", reads, place)
 
@@ -174,7 +190,8 @@ class LanguageTest(unittest.TestCase):
         for place, node in self.each(ast.Call):
             if isinstance(node.func, ast.Name) and hasattr(builtins, node.func.id):
                 self.assertTrue(node.func.id in CALLED, (place, node.func.id))
-                self.assertEqual(node.keywords, [], place)
+                for keyword in node.keywords:
+                    self.assertIn((node.func.id, keyword.arg), KEYWORDS, place)
                 if node.func.id == "set":
                     self.assertIsInstance(node.args[0], ast.ListComp, place)
             for arg in node.args:

@@ -67,6 +67,12 @@ def _turned(edges, entries, event):
     return ring[::-1]
 
 
+def is_ring(edges):
+    """Whether the edges follow one another, the first one the last one, and add up to less than 0."""
+    follow = all([edges[at - 1][1] == edges[at][0] for at in range(len(edges))])
+    return follow and sum([most for _, _, most in edges]) < 0
+
+
 def sums_beside(edges, exits, ticks, start):
     """The least sums from `start` on, with ticks of all events that keep all edges.
 

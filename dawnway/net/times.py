@@ -2,8 +2,8 @@
 
 from dawnway.base.names import DAWN, is_pair, is_tick
 from dawnway.errors import InvalidOperation, Refused
-from dawnway.net.needs import need_net, need_place
-from dawnway.net.paths import least_sums
+from dawnway.net.needs import are_told_words, need_net, need_place
+from dawnway.net.paths import is_ring, least_sums
 
 
 def times_paper(net):
@@ -92,12 +92,6 @@ def _turned_edges(net):
 
 
 def _is_ring(net, value):
-    if not isinstance(value, tuple) or len(value) < 2:
+    if not are_told_words(net, value) or len(value) < 2:
         return False
-    told = {word: True for word in net.told}
-    for word in value:
-        if not is_pair(word) or not all([isinstance(part, str) for part in word]) or word not in told:
-            return False
-    edges = [net.row(word)[1:] for word in value]
-    follow = all([edges[at - 1][1] == edges[at][0] for at in range(len(edges))])
-    return follow and sum([most for _, _, most in edges]) < 0
+    return is_ring([net.row(word)[1:] for word in value])

@@ -2,14 +2,12 @@
 
 from dawnway.base.names import is_ascending, is_between, is_pair, is_tick
 from dawnway.errors import InvalidCourse, InvalidNumber, InvalidOperation, InvalidRow, InvalidWay, TooMany
-from dawnway.net.needs import need_net
+from dawnway.net.needs import are_event_ticks, need_net
 from dawnway.net.nets import Net
-from dawnway.play.runs import Run, is_kept, looks_of, seen_by
+from dawnway.play.runs import MAX_AGAIN, Run, is_kept, looks_of, seen_by
 from dawnway.rule.rows import is_row
 
 MAX_ASKS = 2000
-
-_MAX_AGAIN = 10 ** 32
 
 
 class Play:
@@ -17,7 +15,7 @@ class Play:
 
     def __init__(self, net, course, rounds):
         need_net(net)
-        _need_course(net, course)
+        need_course(net, course)
         run = _run_of(net, course, rounds)
         if run is None or run.as_rounds() != rounds:
             raise InvalidOperation("no rounds of the net in this course")
@@ -104,7 +102,7 @@ def each_course(net):
 def seen_at(net, times, tick):
     """What is seen up to and including the tick, if events come at these times."""
     need_net(net)
-    if not isinstance(times, dict) or not all([event in net and is_tick(times[event]) for event in times]):
+    if not are_event_ticks(net, times):
         raise InvalidOperation("no dict from events of the net to ticks")
     _need_tick(tick)
     return seen_by(looks_of(net), times, tick)
@@ -113,26 +111,26 @@ def seen_at(net, times, tick):
 def play(net, way, course):
     """The play of the way in the course."""
     need_net(net)
-    _need_way(way)
-    _need_course(net, course)
-    return _played(net, way, course)
+    need_way(way)
+    need_course(net, course)
+    return played(net, way, course)
 
 
 def first_broken(net, way, courses):
     """The first of the courses in which the way breaks something, or None."""
     need_net(net)
-    _need_way(way)
+    need_way(way)
     if not isinstance(courses, tuple) or not all([is_course(net, course) for course in courses]):
         raise InvalidCourse("no tuple of courses of the net")
     for course in courses:
-        told = _played(net, way, course)
+        told = played(net, way, course)
         if told.broken != ():
             return told.course
     return None
 
 
-def _played(net, way, course):
-    """The play, asked tick by tick."""
+def played(net, way, course):
+    """The play of the way in the course, asked tick by tick; nothing is checked ahead."""
     lengths = dict(course)
     run = Run(net, lengths)
     looks = looks_of(net)
@@ -160,7 +158,7 @@ def _is_step(net, done, tick, step):
     deeds, again = step
     if not all([deed in net.deeds and deed not in done for deed in deeds]):
         return False
-    return is_ascending(deeds) and (again is None or is_between(again, tick + 1, _MAX_AGAIN))
+    return is_ascending(deeds) and (again is None or is_between(again, tick + 1, MAX_AGAIN))
 
 
 def _next_ask(run, looks, tick, again):
@@ -199,14 +197,16 @@ def _is_round(value):
     return is_tick(value[0]) and isinstance(value[2], tuple)
 
 
-def _need_way(way):
+def need_way(way):
+    """Raises InvalidWay if the value is surely no way."""
     if way is None or isinstance(way, (bool, int, str, tuple, list, dict)):
         raise InvalidWay("no way")
     if isinstance(way, Net) or isinstance(way, Play):
         raise InvalidWay("no way")
 
 
-def _need_course(net, course):
+def need_course(net, course):
+    """Raises InvalidCourse unless the value is a course of the net."""
     if not is_course(net, course):
         raise InvalidCourse("no course of the net")
 

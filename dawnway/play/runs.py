@@ -2,6 +2,9 @@
 
 from dawnway.base.names import DAWN
 
+# No way is asked behind this tick.
+MAX_AGAIN = 10 ** 32
+
 
 class Run:
     """The ticks of all that comes by the deeds that are done so far, also of ends to come."""

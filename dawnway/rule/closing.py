@@ -13,6 +13,13 @@ _FAR = 10 ** 41
 _LEAST = 1 - 10 ** 40
 
 
+def closing_of(net):
+    """The closing of all told rows of a net."""
+    closing = Closing(net)
+    closing.take_told()
+    return closing
+
+
 class Closing:
     """The least bounds and the greatest waits of a net, or a bound from an event to itself below 0."""
 
@@ -32,7 +39,43 @@ class Closing:
         self._last = None
         for at in self._every:
             self._sums[at][at] = 0
-        self._close()
+
+    def take_told(self):
+        """Makes all rows that rules make of the told rows of the net."""
+        for word in self._net.told:
+            _, first, second, most = self._net.row(word)
+            self._take(self._places[first], self._places[second], most, word)
+        # Over dawn each two events get a bound. So a told one that is far below 0 meets one that
+        # leads back at once, and no sum becomes too long.
+        self._join_over(self._places[DAWN])
+        for mid in self._every:
+            self._join_over(mid)
+        self._go_on()
+
+    def beside(self, first, second, most, word):
+        """The closing of the same rows and one told bound more; this one stays as it is."""
+        other = Closing(self._net)
+        other._sums = [list(row) for row in self._sums]
+        other._origins = [list(row) for row in self._origins]
+        other._waits = [list(row) for row in self._waits]
+        other._reasons = [list(row) for row in self._reasons]
+        other._lines = list(self._lines)
+        other._last = self._last
+        one = self._places[first]
+        at = self._places[second]
+        if other._take(one, at, most, word):
+            other._join_back(one, at)
+            other._join_over(at)
+            other._go_on()
+        return other
+
+    def is_barred(self):
+        """Whether a bound from an event to itself below 0 has come."""
+        return self._last is not None
+
+    def keeps(self, first, second, most):
+        """Whether a bound for two events is covered by the one that is there."""
+        return self._sums[self._places[first]][self._places[second]] <= most
 
     def as_table(self):
         """The bounds and the waits of the closure, as two dicts, or None if there is none."""
@@ -61,15 +104,8 @@ class Closing:
         told = tuple([part if isinstance(part, str) else places[part] for part in why])
         return (kind, self._events[one], second, number), told
 
-    def _close(self):
-        for word in self._net.told:
-            _, first, second, most = self._net.row(word)
-            self._take(self._places[first], self._places[second], most, word)
-        # Over dawn each two events get a bound. So a told one that is far below 0 meets one that
-        # leads back at once, and no sum becomes too long.
-        self._join_over(self._places[DAWN])
-        for mid in self._every:
-            self._join_over(mid)
+    def _go_on(self):
+        """Makes rows by all rules until none makes a new one; by `joined` there is nothing to make at first."""
         changed = True
         while changed:
             self._all_early()
@@ -161,7 +197,8 @@ class Closing:
         others = [other for other in self._works if other[1] != end and other[0] != end]
         # By `first` alone, nothing is made by `late`: only what `both` made leads on to more.
         for begin, _, _, _, _ in others:
-            self._late(work, begin)
+            if self._lines[self._reasons[work][begin]][1][0] == "both":
+                self._late(work, begin)
         changed = True
         while changed:
             changed = False

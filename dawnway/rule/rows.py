@@ -81,12 +81,13 @@ def used_lines(net, lines):
 def lines_under(lines, last):
     """The ascending indices of the lines on which a line hangs, itself among them."""
     used = {last: True}
-    for index in range(last, -1, -1):
-        if index in used:
-            _, why = lines[index]
-            for part in why[1:]:
-                if not isinstance(part, str):
-                    used[part] = True
+    left = [last]
+    while left != []:
+        _, why = lines[left.pop()]
+        for part in why[1:]:
+            if not isinstance(part, str) and part not in used:
+                used[part] = True
+                left.append(part)
     return sorted(used)
 
 

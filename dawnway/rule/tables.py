@@ -3,7 +3,7 @@
 from dawnway.base.names import is_integer, is_pair
 from dawnway.errors import InvalidOperation, InvalidTable
 from dawnway.net.needs import is_place, is_work, need_net, need_place, need_work
-from dawnway.rule.closing import Closing
+from dawnway.rule.closing import closing_of
 from dawnway.rule.gaps import made_fault, told_fault
 from dawnway.rule.rows import is_list
 
@@ -32,7 +32,7 @@ def is_closed(net, value):
 def answer(net):
     """Any closed table, or any list, with the word that tells which."""
     need_net(net)
-    closing = Closing(net)
+    closing = closing_of(net)
     rows = closing.as_table()
     if rows is None:
         return "list", closing.as_list()
@@ -57,7 +57,7 @@ def is_safe(net):
 def closure(net):
     """The bounds and the waits of the closure, or None if there is no closed table."""
     need_net(net)
-    return Closing(net).as_table()
+    return closing_of(net).as_table()
 
 
 def tightest(net, first, second):

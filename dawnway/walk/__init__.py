@@ -1,0 +1,1 @@
+"""Walks of closed tables, and courses against ways that have none."""
