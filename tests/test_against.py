@@ -364,7 +364,8 @@ class BeatenTest(unittest.TestCase):
             is_beaten(HARD, lambda tick, seen: None, pair)
         with self.assertRaises(TooMany):
             is_beaten(HARD, lambda tick, seen: ((), tick + 1), pair)
-        self.assertIs(is_beaten(HARD, lambda tick, seen: None, ({"fly": 9}, ("bound", "soon"))), False)
+        for value in (({"fly": 9}, ("bound", "soon")), ({"fly": 10}, ("bound", "x")), ({"fly": 10}, None), None):
+            self.assertIs(is_beaten(HARD, lambda tick, seen: None, value), False)
 
 
 class StatementsTest(unittest.TestCase):

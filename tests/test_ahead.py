@@ -189,7 +189,7 @@ class AheadPaperTest(unittest.TestCase):
     def test_values_that_are_no_times(self):
         for value in (*odd_values(), {"go": 0}, {"open": 10}, {"go": 0, "open": 10, "land": 9}, {"go": False, "open": 10},
                       {"go": 0, "open": "10"}, {"go": 0, "open": None}, {"go": -1, "open": 9}, {"go": 0, "open": [10]},
-                      {"go": 0, "open": 10, 1: 1}, [("go", 0), ("open", 10)], {"go": 0, "opens": 10}):
+                      {"go": 0, "open": 10, 1: 1}, {"go": 0, "land": 9}, [("go", 0), ("open", 10)], {"go": 0, "opens": 10}):
             self.assertIs(are_firm(FLY, value), False)
             self.assertIs(is_ahead_paper(FLY, value), False)
             self.assertIs(is_ahead_paper(FLY, ("times", value)), False)

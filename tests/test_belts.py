@@ -231,6 +231,14 @@ class WorstTest(unittest.TestCase):
         self.assertIs(belt.is_worst((-2, {"x": 5}, (10 ** 34, 10 ** 34))), True)
         self.assertIs(belt.is_worst((-2, {"x": 5}, (0, 1))), False)
 
+    def test_lots_that_do_not_fit_into_the_stretch(self):
+        belt = Belt({"x": (0, 10), "y": (5, 5)}, (("x", 3, 3, 5, 1), ("x", 0, 3, 1, 1), ("y", 0, 0, 9, 1)), room=1)
+        self.assertEqual(belt.worst(), (13, {"x": 2, "y": 5}, (5, 5)))
+        belt = Belt({"x": (0, 4), "y": (5, 5)}, (("x", 0, 0, 5, 1), ("y", 0, 0, 9, 1)), room=3)
+        self.assertEqual(belt.worst(), (8, {"x": 4, "y": 5}, (4, 5)))
+        belt = Belt({"x": (0, 4), "y": (9, 9)}, (("x", 0, 0, 5, 1), ("y", 0, 0, 9, 1)), room=3)
+        self.assertEqual(belt.worst()[::2], (6, (9, 9)))
+
     def test_wide_bounds(self):
         belt = Belt({"x": (0, FAR - 9), "y": (0, FAR - 9)}, (("x", 0, 3, 5, 1), ("x", 7, 9, 4, 1), ("y", 1, 2, 3, 1)), room=1)
         told = belt.worst()
@@ -321,6 +329,7 @@ class PaperTest(unittest.TestCase):
         for value in (*odd_values(), ["plan", plan], ("plan", plan, ()), ("plans", plan), plan, ("over", plan), ("over", (2, 4)), ("over", (4, 2)),
                       ("over", [2, 4]), ("over", None), (plan, "plan")):
             self.assertIs(BELT.is_paper(ready, value), False)
+        self.assertIs(BELT.is_paper(READY, ("overs", (3, 4))), False)
         for value in odd_values():
             self.assertIs(BELT.is_plan(ready, value), value == ())
             self.assertIs(BELT.is_paper(ready, ("over", value)), False)
@@ -399,6 +408,25 @@ class LeastPaperTest(unittest.TestCase):
         roomy = Belt({"x": (0, 0)}, (("x", 0, 1, 2, 0),), room=1)
         for stretches, right in (((), True), (((0, 1),), True), (((0, 0),), False), (((0, 1), (7, 7)), False)):
             self.assertIs(roomy.is_least_paper({"x": 0}, (((0, 0, 1), (1, 0, 1)), ((0, stretches),))), right)
+
+    def test_three_stretches(self):
+        belt = Belt({"x": (0, 0)}, tuple(("x", at, at, 2, 7) for at in (0, 2, 4)), room=1)
+        plan = ((0, 0, 1), (2, 1, 1), (4, 2, 1))
+        self.assertEqual(belt.least_paper({"x": 0}), (plan, ((7, ((0, 0), (2, 2), (4, 4))),)))
+        for stretches in (((0, 0), (4, 4), (2, 2)), ((2, 2), (0, 0), (4, 4)), ((4, 4), (2, 2), (0, 0)), ((0, 0), (2, 2))):
+            self.assertIs(belt.is_least_paper({"x": 0}, (plan, ((7, stretches),))), False)
+
+    def test_many_worths(self):
+        worths = (7, 10 ** 9, 0, 1024, 33, 10 ** 6, 5)
+        belt = Belt({"x": (0, 0)}, tuple(("x", 0, 9, 1, worth) for worth in worths), room=1)
+        self.assertEqual([worth for worth, _ in belt.least_paper({"x": 0})[1]], sorted(worths, reverse=True))
+        self.assertIs(belt.is_least_paper({"x": 0}, belt.least_paper({"x": 0})), True)
+
+    def test_bags_far_apart(self):
+        belt = Belt({"x": (0, 0), "y": (FAR - 9, FAR - 9)}, (("y", 0, 2, 3, 1), ("x", 0, 1, 2, 2)), room=1)
+        ready = {"x": 0, "y": FAR - 9}
+        self.assertEqual(belt.paper(ready), ("plan", ((0, 1, 1), (1, 1, 1), (FAR - 9, 0, 1), (FAR - 8, 0, 1), (FAR - 7, 0, 1))))
+        self.assertEqual(belt.least_paper(ready)[0], belt.paper(ready)[1])
 
     def test_worthless_bags(self):
         belt = Belt({"x": (0, 0)}, (("x", 0, 0, 2, 0), ("x", 0, 0, 1, 4)), room=1)

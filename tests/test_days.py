@@ -418,6 +418,14 @@ class DealByTest(unittest.TestCase):
             deal_by(more, right)
         self.assertEqual(deal_by(more, {**right, "x": 10 ** 34}), {"s1": ("a", "b")})
 
+    def test_uses_from_dawn(self):
+        day = Day(THREE, ("p",), uses={"a": ("p", "dawn", "outa", "k"), "b": ("p", "inb", "outb", "k")}, gaps={("p", "k", "k"): 2})
+        ticks = {event: 2 for event in EVENTS}
+        self.assertEqual(deal_by(day, {**ticks, "outa": 0}), {"p": ("a", "b")})
+        with self.assertRaises(Refused) as caught:
+            deal_by(day, {**ticks, "outa": 1})
+        self.assertEqual(caught.exception.reason, ("clash", "a", "b"))
+
     def test_bounds_of_the_net_do_not_matter(self):
         self.assertEqual(deal_by(PLACED, {"ina": 0, "outa": 0, "inb": 2, "outb": 2}), {"s1": ("a", "b")})
 

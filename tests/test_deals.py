@@ -429,7 +429,29 @@ class TreeTest(unittest.TestCase):
         day = PLACED.with_net(hard)
         leaf = ("leaf", answer(case_net(day, ()))[1])
         self.assertIs(is_tree(day, leaf), True)
-        self.assertIs(is_tree(day, ("case", "a", "b", leaf, leaf)), True)
+        branches = ("case", "a", "b", leaf, leaf)
+        self.assertIs(is_tree(day, branches), True)
+        for case in ((("a", "b"),), (("b", "a"),)):
+            self.assertIs(is_tree(day, leaf, case=case), True)
+            self.assertIs(is_tree(day, branches, case=case), False)
+        for part in (("leaf", leaf[1], ()), ("leaf",), ("leaves", leaf[1]), [*leaf]):
+            self.assertIs(is_tree(day, part), False)
+
+    def test_many_pairs_that_can_go_one_way_alone(self):
+        lasts, bounds, uses = {}, {}, {}
+        for index in range(20):
+            first, last = f"in{index:02}", f"out{index:02}"
+            lasts[first], lasts[last] = 3 * index + 1, 3 * index + 99
+            bounds[f"s{index}"] = (last, first, -2)
+            bounds[f"b{index}"] = (first, "dawn", -3 * index)
+            uses[f"u{index:02}"] = ("p", first, last, "k")
+        day = Day(Net(lasts, (), bounds), ("p",), uses=uses)
+        self.assertEqual(open_pairs(day), ())
+        self.assertEqual(list(safe_deals(day)), [{"p": tuple(uses)}])
+        self.assertEqual(deal_paper(day)[:2], ("deal", {"p": tuple(uses)}))
+        hard = day.with_net(day.net.with_bounds({"s7": ("out07", "in07", -4)}).with_lasts({"in07": 21, "in08": 24}))
+        told = deal_paper(hard)
+        self.assertEqual((told[0], is_deal_paper(hard, told), list(safe_deals(hard))), ("tree", True, []))
 
     def test_a_deep_tree(self):
         lasts, uses = {"hard": 2}, {}

@@ -89,7 +89,8 @@ class CrewTest(unittest.TestCase):
         tasks = ((0, 4, "a"), (5, 9, "b"))
         for walk in (-1, FAR + 1, True, None, "1", (1,), [1]):
             self.wrong(tasks, walks={("a", "b"): walk})
-        for pair in (("a", "a"), ("a", "B"), ("a", "dawn"), ("a",), ("a", "b", "c"), "ab", 1, None, ("a", None), ("a", ("b",))):
+        for pair in (("a", "a"), ("a", "B"), ("a", "dawn"), ("a",), ("a", "b", "c"), "ab", 1, None, ("a", None), ("a", ("b",)),
+                     ("B", "a"), ("dawn", "a"), (None, "a"), (1, "a"), ("", "a")):
             self.wrong(tasks, walks={pair: 0})
         for value in (*[value for value in odd_values() if value != () and value != {} and value != {("a", "b"): 1}], [("a", "b")]):
             self.wrong(tasks, walks=value)
@@ -228,8 +229,10 @@ class FewestTest(unittest.TestCase):
             self.assertIs(CREW.are_rosters(rows), False, rows)
         for crowd in ((2, 1), [1, 2], (1,), (1, 2, 3), (1, 1), (0, 1), (1, True), (1, 4), (-1, 1), None, (None,), ((1,), (2,))):
             self.assertIs(CREW.is_paper(1, ("crowd", crowd)), False, crowd)
-        for value in (["rosters", rosters], ("rosters",), ("rosters", rosters, ()), ("roster", rosters), rosters, (rosters, "rosters")):
+        for value in (["rosters", rosters], ("rosters",), ("rosters", rosters, ()), ("roster", rosters), rosters, (rosters, "rosters"),
+                      ("crowds", (0, 1, 2)), ("crowds", ())):
             self.assertIs(CREW.is_paper(2, value), False)
+        self.assertIs(CREW.is_paper(1, ("crowds", (1, 2))), False)
         for value in odd_values():
             self.assertIs(CREW.are_rosters(value), False)
             self.assertIs(CREW.is_paper(2, value), False)
@@ -327,7 +330,7 @@ class CrewByTest(unittest.TestCase):
                 with self.assertRaises(InvalidTable):
                     crew_by(answer, None, walks=None)
         for key, number in ((("land", "land"), 1), (("dawn", "dawn"), 1), (("land",), 1), ("ab", 1), (("land", "A"), 1), (("land", None), 1),
-                            (("land", "off"), True), (("land", "off"), None), (("land", "off"), 10 ** 40), (1, 1), (("a", "b", "c"), 1),
+                            (("A", "land"), 1), ((None, "land"), 1), (("land", "off"), True), (("land", "off"), None), (("land", "off"), 10 ** 40), (1, 1), (("a", "b", "c"), 1),
                             (("land", ("off",)), 1)):
             with self.assertRaises(InvalidTable, msg=key):
                 crew_by(("table", {**bounds, key: number}, waits), rows)
@@ -341,7 +344,7 @@ class CrewByTest(unittest.TestCase):
         answer = ("table", *closure(DAY))
         for rows in (*[value for value in odd_values() if value != ()], (("land", "off"),), (("land", "off", "g", 1),), (["land", "off", "g"],),
                      [("land", "off", "g")], (("land", "land", "g"),), (("dawn", "off", "g"),), (("land", "dawn", "g"),), (("land", "off", "dawn"),),
-                     (("land", "off", "G"),), (("land", None, "g"),), (("land", ["off"], "g"),), (("land", "off", "g"),) * 61, (None,),
+                     (("land", "off", "G"),), (("land", None, "g"),), (("land", ["off"], "g"),), (("land", "off", "g"),) * 61, (None,), (("x", "y", "g"),) * 61,
                      (("x", "y", "g"), ("land", "land", "g"))):
             with self.assertRaises(InvalidDay, msg=rows):
                 crew_by(answer, rows)

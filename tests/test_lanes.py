@@ -413,7 +413,7 @@ class LaneByTest(unittest.TestCase):
         for rows in (*[value for value in odd_values() if value != ()], [("land", 0, 5, 7)], (["land", 0, 5, 7],), (("land", 0, 5),), (("land", 0, 5, 7, 1),),
                      (("land", 6, 5, 7),), (("land", True, 5, 7),), (("land", 0, None, 7),), (("land", 0, 10 ** 40, 7),), (("A", 0, 5, 7),),
                      ((None, 0, 5, 7),), ((["land"], 0, 5, 7),), (("land", 0, 5, 0),), (("land", 0, 5, MANY + 1),), (("land", 0, 5, True),),
-                     (("land", 0, 5, 7),) * 61, (("x", 0, 5, 7), ("land", 6, 5, 7)), (None,)):
+                     (("land", 0, 5, 7),) * 61, (("x", 0, 5, 7), ("land", 6, 5, 7)), (None,), (("x", 0, 5, 7),) * 61):
             with self.assertRaises(InvalidDay, msg=rows):
                 lane_by(answer, rows, opens=None, pace=None)
         self.assertEqual(len(lane_by(answer, (("land", 0, 5, 7),) * 60)), 60)

@@ -212,6 +212,25 @@ class FreeDeedsTest(unittest.TestCase):
         self.assertEqual(self.ask(soon, 7, (7, "e")), ("a",))
         self.assertEqual(self.ask(soon, 6, (6, "e")), ())
 
+    def test_waits_whose_begin_must_have_come_and_is_not_known(self):
+        net = Net({"a": 60, "m": 9, "e": 60}, {"c": ("dawn", "m", 1, 2, 0), "d": ("m", "e", 1, 5, 0)}, {"x": ("a", "e", 4)})
+        bounds, waits = closure(net)
+        self.assertEqual((waits[("a", "d")], bounds[("a", "m")]), (1, -1))
+        self.assertEqual(self.ask(net, 10), ())
+        self.assertEqual(self.ask(net, 10, (10, "m")), ())
+        self.check_from(net, 3, "a", (2, "m"))
+        self.check_from(net.with_bounds({"x": ("a", "e", 5)}), 2, "a")
+
+    def test_bounds_of_0(self):
+        for other in ("d", "e", "dawn"):
+            net = Net({"a": 60, "d": 20, "e": 60}, {"w": ("d", "e", 5, 30, 2)}, {"x": ("a", other, 0), "y": ("d", "dawn", -2)})
+            bounds, waits = closure(net)
+            self.assertLessEqual(bounds[("a", other)], 0)
+            for tick in range(40):
+                for seen in ((), ((2, "d"),), ((5, "e"),), ((3, "d"), (10, "e")), ((9, "a"),)):
+                    if all(at <= tick for at, _ in seen):
+                        self.assertEqual(self.ask(net, tick, *seen), greatest_free(net, bounds, waits, tick, seen))
+
     def test_deeds_that_come_only_together(self):
         ring = {"x": ("a", "b", 0), "y": ("b", "c", 0), "z": ("c", "a", 0)}
         net = Net({"a": 30, "b": 30, "c": 30, "e": 30}, {"w": ("dawn", "e", 2, 9, 1)}, {**ring, "q": ("b", "e", -3)})
@@ -550,6 +569,13 @@ class WalkTest(unittest.TestCase):
         for value in odd_values():
             self.assertIs(walk == value, isinstance(value, Walk))
             self.assertIs(walk.at(3) == value, False)
+
+    def test_equality_by_bounds(self):
+        net = Net({"a": 30, "b": 30})
+        bounds, waits = closure(net)
+        other = {**bounds, ("a", "b"): 29}
+        self.assertTrue(is_closed(net, (other, waits)))
+        self.assertTrue(Walk(net, bounds, waits) != Walk(net, other, waits))
 
     def test_equality_by_waits(self):
         net = Net({"a": 30, "e": 30}, {"w": ("dawn", "e", 2, 5, 0)}, {"x": ("a", "e", 1)})

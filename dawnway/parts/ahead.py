@@ -83,6 +83,4 @@ def _are_deed_times(net, value):
 
 
 def _is_firm_ring(net, value):
-    if not are_told_words(net, value) or len(value) < 1:
-        return False
-    return is_ring([firm_row(net, word) for word in value])
+    return are_told_words(net, value) and is_ring([firm_row(net, word) for word in value])

@@ -205,7 +205,7 @@ def _are_gaps(uses, gaps):
         place, _, _, kind = uses[name]
         kinds.setdefault(place, {})[kind] = True
     for key in gaps:
-        if not isinstance(key, tuple) or len(key) != 3 or not all([isinstance(part, str) for part in key]):
+        if not isinstance(key, tuple) or len(key) != 3:
             return False
         if key[0] not in kinds or key[1] not in kinds[key[0]] or key[2] not in kinds[key[0]]:
             return False

@@ -45,7 +45,7 @@ def deal_paper(day):
     several = _few_open(day, ways)
     # What can go one way alone is told first: it needs no branches, and leaves fewer to the others.
     pairs = [pair for pair in _place_pairs(day) if pair not in several]
-    kind, found = _search(day, base, (), [*pairs, *several])
+    kind, found = _search(day, base, 0, [*pairs, *several])
     if kind == "tree":
         return kind, found
     bounds, waits = closure(net_of(day, found))
@@ -126,8 +126,8 @@ def _ways(day, base):
     """The dict from all ordered pairs of uses of one place to whether the first can go ahead by itself."""
     ways = {}
     for one, other in _place_pairs(day):
-        ways[(one, other)] = not _ordered(day, base, (), one, other).is_barred()
-        ways[(other, one)] = not _ordered(day, base, (), other, one).is_barred()
+        ways[(one, other)] = not _ordered(day, base, 0, one, other).is_barred()
+        ways[(other, one)] = not _ordered(day, base, 0, other, one).is_barred()
     return ways
 
 
@@ -143,10 +143,10 @@ def _few_open(day, ways):
     return several
 
 
-def _ordered(day, closing, case, one, other):
-    """The closing of the net of a case with one pair more, by that of the case."""
+def _ordered(day, closing, index, one, other):
+    """The closing of the net of a case with one pair more, at this index, by that of the case."""
     first, second, most = gap_bound(day, one, other)
-    return closing.beside(first, second, most, ("bound", f"case.{len(case)}"))
+    return closing.beside(first, second, most, ("bound", f"case.{index}"))
 
 
 def _goes_ahead(day, closing, one, other):
@@ -160,8 +160,8 @@ def _is_ordered(day, closing, pair):
     return _goes_ahead(day, closing, one, other) or _goes_ahead(day, closing, other, one)
 
 
-def _search(day, closing, case, pairs):
-    """Any safe deal in which the case holds, or any tree at the case, with the word that tells which."""
+def _search(day, closing, index, pairs):
+    """Any safe deal in which a case of so many pairs holds, or any tree at it, with the word that tells which."""
     if closing.is_barred():
         return "tree", ("leaf", closing.as_list())
     steps = []
@@ -171,24 +171,24 @@ def _search(day, closing, case, pairs):
         if pairs == []:
             return "deal", deal_with(day, lambda one, other: _goes_ahead(day, closing, one, other))
         one, other = pairs[0]
-        sides = [(pair, _ordered(day, closing, case, *pair)) for pair in ((one, other), (other, one))]
+        sides = [(pair, _ordered(day, closing, index, *pair)) for pair in ((one, other), (other, one))]
         going = [side for side in sides if not side[1].is_barred()]
         if len(going) == 1:
             steps.append(sides)
-            case = (*case, going[0][0])
+            index += 1
             closing = going[0][1]
         else:
-            kind, tree = _branches(day, sides, case, pairs)
+            kind, tree = _branches(day, sides, index + 1, pairs)
             if kind == "deal":
                 return kind, tree
     return "tree", _with_steps(steps, tree)
 
 
-def _branches(day, sides, case, pairs):
+def _branches(day, sides, index, pairs):
     """Any safe deal on one of both sides, or the tree that has a tree for each."""
     trees = []
-    for pair, closing in sides:
-        kind, found = _search(day, closing, (*case, pair), pairs)
+    for _, closing in sides:
+        kind, found = _search(day, closing, index, pairs)
         if kind == "deal":
             return kind, found
         trees.append(found)
@@ -235,8 +235,6 @@ def _is_branching(day, node, case):
 def _longer(day, ways, closing, uses):
     """The pairs of a closing and a sequence that is longer by one use and can go on, ascending."""
     left = [name for place in day.places for name in day.uses_of(place) if name not in uses]
-    if left == []:
-        return []
     told = day.uses
     here = [name for name in left if told[name][0] == told[left[0]][0]]
     found = []
@@ -244,7 +242,7 @@ def _longer(day, ways, closing, uses):
         if all([ways[(name, other)] for other in here if other != name]):
             longer = closing
             if uses != () and told[uses[-1]][0] == told[name][0]:
-                longer = _ordered(day, closing, (), uses[-1], name)
+                longer = _ordered(day, closing, 0, uses[-1], name)
             if not longer.is_barred():
                 found.append((longer, (*uses, name)))
     return found

@@ -64,7 +64,7 @@ class Crew:
                 while row[-1] in onward:
                     row.append(onward[row[-1]])
                 rows.append(tuple(row))
-        return tuple(sorted(rows))
+        return tuple(rows)
 
     def crowd(self):
         """Any greatest crowd."""
@@ -76,7 +76,7 @@ class Crew:
         while fresh != []:
             task = fresh.pop()
             for other in range(len(self._tasks)):
-                if other not in reached and self._follows(other, task, 0):
+                if self._follows(other, task, 0):
                     # All that can be reached is taken: else more tasks could be joined in rows.
                     reached[other] = True
                     if behind[other] not in ahead:
@@ -202,8 +202,7 @@ def _are_walks(walks, places):
 
 def _is_shortest(walks, pair, mid):
     one, other = pair
-    # From a place to itself the walk takes no time.
-    return mid in pair or walks[pair] <= walks.get((one, mid), 0) + walks.get((mid, other), 0)
+    return walks[pair] <= walks.get((one, mid), 0) + walks.get((mid, other), 0)
 
 
 def _long_walks(walks):

@@ -197,12 +197,11 @@ def lane_by(answer, rows, *, opens=0, pace=1):
     need_table(answer)
     if not isinstance(rows, tuple) or len(rows) > _MAX_ROWS or not all([_is_event_row(row) for row in rows]):
         raise InvalidDay("no tuple of at most sixty rows")
-    spans = [span_of(answer, event) for event, _, _, _ in rows]
     told = []
-    for (least, greatest), (_, ahead, behind, many) in zip(spans, rows):
-        if greatest + behind < max(0, least + ahead):
-            raise InvalidDay("a row without ticks")
+    for event, ahead, behind, many in rows:
+        least, greatest = span_of(answer, event)
         told.append((max(0, least + ahead), greatest + behind, many))
+    # A row of which no ticks are left ends ahead of its begin: it is no row of a lane.
     return Lane(tuple(told), opens=opens, pace=pace)
 
 

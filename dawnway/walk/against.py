@@ -54,7 +54,7 @@ def is_beaten(net, way, value):
     need_way(way)
     if not is_pair(value) or not is_course(net, value[0]) or not is_told(net, value[1]):
         return False
-    return value[1][0] in ("bound", "last") and value[1] in _beaten_words(played(net, way, value[0]))
+    return value[1] in _beaten_words(played(net, way, value[0]))
 
 
 def _need_lines(net, lines):

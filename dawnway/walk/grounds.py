@@ -8,7 +8,11 @@ _NEVER = 10 ** 42
 
 
 class Ground:
-    """The rows of a closed table on which a deed can wait, for each deed."""
+    """The rows of a closed table on which a deed can wait, for each deed.
+
+    Bounds of 0 are not among them: by `first`, `joined` and `late`, a closed table that has one has
+    waits and lesser bounds of the same deed that together ask no less.
+    """
 
     def __init__(self, net, bounds, waits):
         works = net.works
@@ -17,13 +21,10 @@ class Ground:
         self._works = works
         self._spans = {works[name][1]: (works[name][0], works[name][3]) for name in works}
         self._bounds = {deed: [] for deed in net.deeds}
-        self._mates = {deed: [] for deed in net.deeds}
         self._waits = {deed: [] for deed in net.deeds}
         for first, second in bounds:
-            most = bounds[(first, second)]
-            if first in self._bounds and most <= 0:
-                rows = self._mates if most == 0 and second in self._bounds else self._bounds
-                rows[first].append((second, most))
+            if first in self._bounds and bounds[(first, second)] < 0:
+                self._bounds[first].append((second, bounds[(first, second)]))
         for event, work in waits:
             if event in self._waits:
                 self._waits[event].append((work, waits[(event, work)]))
@@ -58,33 +59,26 @@ class Ground:
 
     def can_end(self, tick, seen, ends):
         """Whether just these ends can be seen at the tick behind what is seen, by lengths and looks."""
-        if not all([isinstance(end, str) for end in ends]) or len(set([end for end in ends])) < len(ends):
-            return False
         known = self.known(seen)
-        closed = []
+        ended = 0
         for name in self.open_works(seen):
             begin, end, least, most, look = self._works[name]
             length = tick - look - known[begin]
             if end in ends:
-                closed.append(end)
+                ended += 1
                 if not least <= length <= most:
                     return False
             elif length >= most:
                 return False
-        return len(closed) == len(ends)
+        # What is no end of an open work, or is told twice, was not counted.
+        return ended == len(ends)
 
     def _free_ticks(self, known):
-        """The dict from the deeds that have not come to the ticks from which on they are free.
+        """The dict from the deeds that have not come to the ticks from which on they are free."""
+        return {deed: self._free_tick(known, deed) for deed in self._bounds if deed not in known}
 
-        A deed that comes in one tick with others hangs on what these hang on. All of them stand in its
-        own rows, as the table is closed.
-        """
-        ticks = {deed: self._own_tick(known, deed) for deed in self._bounds if deed not in known}
-        together = {deed: [deed, *[mate for mate, _ in self._mates[deed] if mate in ticks]] for deed in ticks}
-        return {deed: max([ticks[mate] for mate in together[deed]]) for deed in ticks}
-
-    def _own_tick(self, known, deed):
-        """The tick from which on the rows of a deed let it come, but for those of deeds of the same tick."""
+    def _free_tick(self, known, deed):
+        """The tick from which on the rows of a deed let it come."""
         ticks = [self._bound_tick(known, event, most) for event, most in self._bounds[deed]]
         ticks.extend([self._wait_tick(known, work, wait) for work, wait in self._waits[deed]])
         return max([0, *ticks])
