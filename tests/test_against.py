@@ -168,6 +168,9 @@ class FollowedTest(unittest.TestCase):
         changed = prescribed(net, why, rows, new) if come else {}
         self.assertEqual(then, {**course, **changed})
         self.assertIn(place, why[1:])
+        if not come:
+            left = lines[place][0]
+            self.assertFalse(left[1] in times and (left[2] if left[0] == "bound" else net.works[left[2]][0]) in times)
         self.assertIs(play(net, way, then).is_broken(lines[place][0]), True)
         return why[0], come
 

@@ -7,6 +7,7 @@ from dawnway.errors import InvalidNet, InvalidOperation, InvalidTable, UnknownNa
 from dawnway.net.nets import Net
 from dawnway.net.times import has_times
 from dawnway.play.plays import each_course, play
+from dawnway.rule.closing import closing_of
 from dawnway.rule.rows import covers, is_list, is_row, made
 from dawnway.rule.tables import (
     answer, closure, is_answer, is_closed, is_form, is_safe, needed_wait, table_fault, tightest,
@@ -176,6 +177,26 @@ class ClosureTest(unittest.TestCase):
             if is_safe(net):
                 for number in closure(net)[0].values():
                     self.assertTrue(-net.horizon <= number <= net.horizon)
+
+    def test_one_told_bound_after_another(self):
+        kinds = {}
+        for seed, net in enumerate(nets(200)):
+            rng = random.Random(seed)
+            closing = closing_of(net)
+            for index in range(3):
+                if not closing.is_barred():
+                    bound = (*rng.sample(["dawn", *net.events], 2), rng.randint(-4, 4))
+                    net = net.with_bounds({f"case.{index}": bound})
+                    before = closing.as_table()
+                    then = closing.beside(*bound, ("bound", f"case.{index}"))
+                    self.assertTrue(is_same(closing.as_table(), before))
+                    self.assertTrue(is_same(then.as_table(), closure(net)))
+                    self.assertIs(then.keeps(*bound), True)
+                    if then.is_barred():
+                        self.assertIs(is_list(net, then.as_list()), True)
+                    kinds[then.is_barred()] = kinds.get(then.is_barred(), 0) + 1
+                    closing = then
+        self.assertTrue(min(kinds.values()) > 50)
 
     def test_far_horizons(self):
         far = 10 ** 30

@@ -72,10 +72,12 @@ def _follow(net, lines, way, told, index):
     _, why = lines[index]
     rows = [lines[at][0] for at in why[1:]]
     new = make_row(net, why[0], rows)
-    if _has_come(net, told, new):
-        course = {**told.course, **_changed_lengths(net, why[0], rows, new)}
-        if course != told.course:
-            told = played(net, way, course)
+    if not _has_come(net, told, new):
+        # What does not come is an event of one of the rows used, too.
+        return told, [at for at in why[1:] if not _has_come(net, told, lines[at][0])][0]
+    course = {**told.course, **_changed_lengths(net, why[0], rows, new)}
+    if course != told.course:
+        told = played(net, way, course)
     for at in why[1:]:
         if told.is_broken(lines[at][0]):
             return told, at
