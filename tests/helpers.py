@@ -4,14 +4,18 @@ import random
 from itertools import combinations, product
 
 from dawnway.errors import DayError, UnknownName
+from dawnway.live.day import Live
 from dawnway.net.nets import Net
 from dawnway.parts.belts import Belt
+from dawnway.parts.connections import Rules
 from dawnway.parts.days import Day
 from dawnway.parts.hands import Crew
 from dawnway.parts.lanes import Lane
+from dawnway.parts.runways import Runway
 from dawnway.play.plays import Play, each_course
 from dawnway.rule.rows import covers, made
 from dawnway.rule.tables import closure
+from dawnway.text.shell import Shell
 from dawnway.walk.walks import Walk
 
 DAY = Net(
@@ -70,6 +74,14 @@ PLACED = Day(
 CREW = Crew(((0, 4, "a"), (5, 9, "a"), (5, 8, "b"), (9, 12, "b")), walks={("a", "b"): 2, ("b", "a"): 2})
 BELT = Belt({"x": (0, 2), "y": (3, 3)}, (("x", 1, 2, 3, 5), ("y", 0, 1, 2, 1)), room=2)
 LANE = Lane(((0, 4, 6), (3, 9, 4)), opens=2)
+RUNWAY = Runway(
+    {"a": ("jet", 0, 9), "b": ("prop", 0, 9), "c": ("jet", 3, 4)},
+    {("jet", "jet"): 2, ("jet", "prop"): 4, ("prop", "jet"): 1, ("prop", "prop"): 2},
+)
+RULES = Rules(
+    {"fly": ("dawn", "in", 3, 9), "hop": ("dawn", "near", 1, 12)}, {"go": (8, (("in", 2, 2), ("near", 1, 4)))},
+)
+LIVE = Live(DAY, tick=12, seen=((12, "land"),))
 
 
 def odd_values():
@@ -83,7 +95,7 @@ def odd_values():
         [], [()], ["a"], [[[[[[[[]]]]]]]], ((((((((),),),),),),),), {}, {1: 2}, {"a": 1}, {"a": True}, {None: None},
         {("a", "b"): 1}, {"fly": 17}, {"fly": [17]}, {True: 1, "a": 2}, {(): {}},
         DAY, BARE, Play(BARE, {}, ()), DayError("x"), UnknownName("x"),
-        Walk(DAY, *closure(DAY)), PLACED, CREW, BELT, LANE,
+        Walk(DAY, *closure(DAY)), PLACED, CREW, BELT, LANE, RUNWAY, RULES, LIVE, Shell(),
     ]
 
 
@@ -114,6 +126,14 @@ def shown(value):
         return f"belt {shown((value.flights, value.lots, value.room))}"
     if isinstance(value, Lane):
         return f"lane {shown((value.rows, value.opens, value.pace))}"
+    if isinstance(value, Runway):
+        return f"runway {shown((value.moves, value.gaps))}"
+    if isinstance(value, Rules):
+        return f"rules {shown((value.works, value.deeds))}"
+    if isinstance(value, Live):
+        return f"live {shown((value.net, value.tick, value.seen, value.rest, value.broken, value.under_way))}"
+    if isinstance(value, Shell):
+        return f"shell {value} {value('log')}"
     if isinstance(value, dict):
         return "{" + ", ".join(f"{shown(key)}: {shown(value[key])}" for key in value) + "}"
     if isinstance(value, (list, tuple)):

@@ -6,22 +6,31 @@ from itertools import combinations
 from dawnway.base import names
 from dawnway.errors import (
     InvalidCourse, InvalidDay, InvalidDeal, InvalidName, InvalidNet, InvalidNumber, InvalidOperation, InvalidRow,
-    InvalidTable, InvalidWay, UnknownName,
+    InvalidTable, InvalidWay, ParseError, UnknownName,
 )
+from dawnway.live import day as live_day
+from dawnway.live import halves
+from dawnway.live.day import Live
+from dawnway.mends import lots, spare
 from dawnway.net import least, nets, times
 from dawnway.net.nets import Net
-from dawnway.parts import ahead, days, deals, hands, lanes
+from dawnway.parts import ahead, days, deals, hands, lanes, weather
 from dawnway.parts.belts import Belt
+from dawnway.parts.connections import Rules
 from dawnway.parts.days import Day
 from dawnway.parts.hands import Crew
 from dawnway.parts.lanes import Lane
+from dawnway.parts.runways import Runway
 from dawnway.play import plays
 from dawnway.play.plays import Play
 from dawnway.rule import rows, tables
+from dawnway.text import formats
+from dawnway.text.shell import Shell
 from dawnway.walk import against, walks
 from dawnway.walk.walks import Walk
 from tests.helpers import (
-    BARE, BELT, CHAIN, CREW, DAY, HARD, LANE, LINES, PLACED, STAND, are_keys_ascending, is_same, odd_values, shown,
+    BARE, BELT, CHAIN, CREW, DAY, HARD, LANE, LINES, LIVE, PLACED, RULES, RUNWAY, STAND, are_keys_ascending, is_same,
+    odd_values, shown,
 )
 
 NO_NET = (InvalidNet, None, [None, True, 5, "net", (), {}, [DAY], {"a": 1}, Play(BARE, {}, ())])
@@ -63,6 +72,31 @@ NO_STRETCH = (InvalidOperation, None, [None, (), "x", 5, (4, 3), (1, True), [1, 
 NO_DESKS = (InvalidNumber, "given", [-1, 10 ** 9 + 1, True, None, "1", (1,), [1], {}, 10 ** 59, DAY])
 NO_ROOM = (InvalidNumber, "given", [0, -1, 401, True, None, "1", (1,), [1], {}, 10 ** 59, DAY])
 NO_COMING = (InvalidOperation, None, [None, (), {}, "x", 5, ((0, 10),), ((0, 6), (4, True)), [(0, 6), (4, 4)], DAY])
+NO_MOVES = (InvalidDay, None, [None, (), "x", 5, {1: 1}, {"a": ("jet", 2, 1)}, {"a": ["jet", 0, 1]}, {"dawn": ("jet", 0, 1)}, DAY])
+NO_GAPS = (InvalidDay, None, [None, (), "x", 5, {}, {1: 1}, {("jet", "jet"): 1}, {("jet", "jet"): True}, DAY])
+NO_FEEDING = (InvalidDay, None, [None, (), "x", 5, {1: 1}, {"go": 8}, {"go": (8, (("x", 1, 1),))}, {"in": (8, ())}, DAY])
+NO_SEQUENCE = (InvalidOperation, None, [None, [], "a", 5, (), ("a", "b"), ("a", "b", "b"), ("a", "b", 1), {}, DAY])
+NO_OWN_NAME = (InvalidName, None, [None, "", "use", "gap", "case", "x" * 11, "A", "dawn", 5, ["a"], {}, DAY])
+NO_LENGTH = (InvalidNumber, "given", [0, -1, 10 ** 30 + 1, True, None, "1", (1,), [1], {}, 10 ** 59, DAY])
+NO_FAR = (InvalidNumber, "given", [-1, 10 ** 30 + 1, True, None, "1", (1,), [1], {}, 10 ** 59, DAY])
+NO_LOOK = (InvalidNumber, "given", [-1, 21, True, None, "1", (1,), [1], {}, 10 ** 59, DAY])
+NO_USE = (UnknownName, "wanted", ["a", "x", "", None, True, 0, ["st"], ("st",), {}, 10 ** 59, DAY])
+NO_RULE_COURSE = (InvalidCourse, None, [None, (), {}, {"fly": 3}, {"fly": True, "hop": 1}, {"fly": 3, "hop": 13}, 5, DAY])
+NO_QUESTION = (InvalidOperation, None, [None, (), "left", ("left", "in"), ("left", "go", "in"), ("seen", "in", "go"), ["left", "in", "go"], {}, 5])
+NO_WORK_TUPLE = (InvalidOperation, None, [None, [], (), "fly", 5, ("x",), ("fly", "fly"), ("land",), (1,), {"fly": 1}, DAY])
+NO_ALL_WORKS = (InvalidOperation, None, [None, [], (), "fly", 5, ("x",), ("fly", "fly"), ("land",), (1,), {"fly": 1}, DAY])
+NO_BOX = (InvalidOperation, None, [None, (), {}, "x", 5, {"x": 1}, {"fly": True}, {"fly": -1}, {"fly": 1, "x": 1}, {1: 1}, DAY])
+NO_PRICES = (InvalidOperation, None, [None, (), [], 5, {"x": 1}, {"walk": -1}, {"walk": True}, {1: 1}, {"land": 1}, DAY])
+NO_LOT = (InvalidOperation, None, [None, [], "walk", 5, ("x",), ("walk", "walk"), ("walk", 1), {}, DAY])
+NO_UPTO = (InvalidNumber, "given", [-1, 10 ** 34 + 1, True, False, "1", (), [1], {1: 1}, 10 ** 59, DAY])
+NO_BEGINNING = (InvalidOperation, None, [None, [], "a", 5, ((12, "x"),), ((13, "land"),), ((True, "land"),), ((5, "land"),), {}, DAY])
+NO_BOUND = (UnknownName, "wanted", ["x", "fly", "land", "", None, True, 0, ["walk"], ("walk",), {}, 10 ** 59, DAY])
+NO_EVENT = (UnknownName, "wanted", ["x", "fly", "dawn", "", None, True, 0, ["land"], ("land",), {}, 10 ** 59, DAY])
+NO_GUEST = (UnknownName, "wanted", ["x", "go", "dawn", "", None, True, 0, ["on"], ("on",), {}, 10 ** 59, DAY])
+NO_COMMON = (UnknownName, "wanted", ["x", "go", "in", "dawn", "", None, True, 0, ["on"], ("on",), {}, 10 ** 59, DAY])
+NO_HALF = (InvalidOperation, None, [DAY, HARD])
+NO_WRITTEN = (InvalidOperation, None, [None, [], "x", 5, (None,), ((),), LINES[2:], ((LINES[0][0], ("joined", 1)),), {}, DAY])
+NO_LINE = (ParseError, None, [None, 5, True, (), ["line"], {}, "x", "  ", "line", "bound", DAY])
 FREE = None
 
 
@@ -80,6 +114,21 @@ ANSWER = ("table", BOUNDS, WAITS)
 READY = {"x": 2, "y": 3}
 WALK = Walk(DAY, BOUNDS, WAITS)
 BUSY = plays.play(HARD, still, {"fly": 17})
+STORMY = weather.with_icing(weather.with_closing(Day(STAND, ("pad", "s1"), uses=PLACED.uses), "st", "s1", 9, 2, 4),
+                            "ice", "pad", "ina", "outa", 1, 2, 5)
+STORM_DEAL = {"pad": ("ice",), "s1": ("a", "st", "b")}
+LAND = ((12, "land"),)
+FIELD = Net({"in": 9, "on": 12}, {"fly": ("dawn", "in", 2, 5, 0)},
+            {"taxi": ("in", "on", 3), "lane": ("on", "in", -2), "by": ("dawn", "on", 9), "from": ("on", "dawn", -4)})
+HALL = Net({"on": 12, "go": 20}, {"on": ("dawn", "on", 4, 9, 0)}, {"call": ("on", "go", 4), "walk": ("go", "on", -1)})
+
+
+def shelled(line):
+    """What a shell with a net answers."""
+    shell = Shell()
+    shell("event a 3")
+    return shell(line)
+
 
 # Each call: the function, right arguments, and for each argument the errors of wrong ones, in their order.
 CALLS = [
@@ -200,6 +249,81 @@ CALLS = [
     (lambda queue, wait: LANE.fewest_desks(queue=queue, wait=wait), (7, 2), [[NO_NUMBER], [NO_NUMBER]]),
     (lambda answer, rows, opens, pace: lanes.lane_by(answer, rows, opens=opens, pace=pace), (ANSWER, (("land", 0, 5, 7),), 2, 1),
      [[NO_ANSWER], [NO_TASKS], [NO_TICK], [(InvalidNumber, "given", [0, -1, True, None, "1", (1,), [1], 10 ** 59, DAY])]]),
+    (Runway, (RUNWAY.moves, RUNWAY.gaps), [[NO_MOVES], [NO_GAPS]]),
+    (RUNWAY.ticks, (("b", "a", "c"),), [[NO_SEQUENCE]]),
+    (RUNWAY.end, (("b", "a", "c"),), [[NO_SEQUENCE]]),
+    (RUNWAY.least_end, (), []),
+    (RUNWAY.best, (), []),
+    (lambda tick: list(RUNWAY.each_sequence(tick)), (3,), [[NO_TICK]]),
+    (RUNWAY.paper, (2,), [[NO_TICK]]),
+    (RUNWAY.is_paper, (2, RUNWAY.paper(2)), [[NO_TICK], FREE]),
+    (lambda day, name, place, begin, least, most, look, gap: weather.with_closing(day, name, place, begin, least, most, look=look, gap=gap),
+     (PLACED, "st", "s1", 5, 3, 8, 2, 1), [[NO_DAY], [NO_OWN_NAME], [NO_NAMED], [NO_FAR], [NO_LENGTH], [NO_LENGTH], [NO_LOOK], [NO_FAR]]),
+    (lambda day, name, pad, after, off, least, most, hold, look: weather.with_icing(day, name, pad, after, off, least, most, hold, look=look),
+     (STORMY, "cold", "pad", "ina", "outa", 3, 8, 6, 2),
+     [[NO_DAY], [NO_OWN_NAME], [NO_NAMED], [NO_NAMED], [NO_NAMED], [NO_LENGTH], [NO_LENGTH], [NO_FAR], [NO_LOOK]]),
+    (weather.longest_closing, (STORMY, STORM_DEAL, "st"), [[NO_DAY], [NO_DEAL], [NO_USE]]),
+    (weather.least_hold, (STORMY, STORM_DEAL, "ice"), [[NO_DAY], [NO_DEAL], [NO_USE]]),
+    (weather.latest_look, (STORMY, STORM_DEAL, "st"), [[NO_DAY], [NO_DEAL], [NO_USE]]),
+    (weather.is_longest, (STORMY, STORM_DEAL, "st", weather.longest_closing(STORMY, STORM_DEAL, "st")), [[NO_DAY], [NO_DEAL], [NO_USE], FREE]),
+    (weather.is_least_hold, (STORMY, STORM_DEAL, "ice", weather.least_hold(STORMY, STORM_DEAL, "ice")), [[NO_DAY], [NO_DEAL], [NO_USE], FREE]),
+    (weather.is_latest, (STORMY, STORM_DEAL, "st", weather.latest_look(STORMY, STORM_DEAL, "st")), [[NO_DAY], [NO_DEAL], [NO_USE], FREE]),
+    (Rules, (RULES.works, RULES.deeds), [[NO_MOVES], [NO_FEEDING]]),
+    (RULES.ticks, ({"hop": 1, "fly": 9},), [[NO_RULE_COURSE]]),
+    (RULES.left, ({"hop": 1, "fly": 9},), [[NO_RULE_COURSE]]),
+    (RULES.as_net, (), []),
+    (lambda tick, seen: RULES.way()(tick, seen), (8, ((3, "near"),)), []),
+    (RULES.paper, (("left", "in", "go"),), [[NO_QUESTION]]),
+    (RULES.is_paper, (("left", "in", "go"), ("course", {"fly": 9, "hop": 1})), [[NO_QUESTION], FREE]),
+    (RULES.sure, (), []),
+    (RULES.with_wait, ("go", "in", 3), [[NO_NAMED], [NO_NAMED], [NO_TICK]]),
+    (lots.conflicts, (DAY, {"walk": 3, "crew": 1}), [[NO_NET], [NO_PRICES]]),
+    (lots.least_mends, (HARD, {"walk": 3, "soon": 1}), [[NO_NET], [NO_PRICES]]),
+    (lots.cheapest, (HARD, {"walk": 3, "soon": 1}), [[NO_NET], [NO_PRICES]]),
+    (lots.mend_paper, (HARD, {"walk": 3, "soon": 1}), [[NO_NET], [NO_PRICES]]),
+    (lots.is_mend_paper, (HARD, {"walk": 3, "soon": 1}, lots.mend_paper(HARD, {"walk": 3, "soon": 1})), [[NO_NET], [NO_PRICES], FREE]),
+    (lots.mended, (DAY, ("crew", "walk")), [[NO_NET], [NO_LOT]]),
+    (lots.left_over, (HARD, {"walk": 3, "soon": 1}, ("walk",)), [[NO_NET], [NO_PRICES], [NO_LOT]]),
+    (spare.stretched, (DAY, ("fly",), 3), [[NO_NET], [NO_WORK_TUPLE], [NO_TICK]]),
+    (spare.spare, (DAY, ("fly",)), [[NO_NET], [NO_WORK_TUPLE]]),
+    (spare.spare_paper, (DAY, ("fly",)), [[NO_NET], [NO_WORK_TUPLE]]),
+    (spare.is_spare_paper, (DAY, ("fly",), spare.spare_paper(DAY, ("fly",))), [[NO_NET], [NO_WORK_TUPLE], FREE]),
+    (spare.full_box, (DAY, ("fly",)), [[NO_NET], [NO_ALL_WORKS]]),
+    (spare.box_paper, (DAY, {"fly": 3}), [[NO_NET], [NO_BOX]]),
+    (spare.is_box_paper, (DAY, {"fly": 3}, spare.box_paper(DAY, {"fly": 3})), [[NO_NET], [NO_BOX], FREE]),
+    (spare.gives, (HARD, LINES), [[NO_NET], [(InvalidTable, None, NO_LIST[2])]]),
+    (live_day.is_beginning, (DAY, 12, LAND), [[NO_NET], [NO_UPTO], FREE]),
+    (live_day.rest, (DAY, 12, LAND), [[NO_NET], [NO_UPTO], [NO_BEGINNING]]),
+    (live_day.verdict, (DAY, 12, LAND, "walk"), [[NO_NET], [NO_UPTO], [NO_BEGINNING], [NO_BOUND]]),
+    (live_day.verdicts, (DAY, 12, LAND), [[NO_NET], [NO_UPTO], [NO_BEGINNING]]),
+    (live_day.verdict_paper, (DAY, 12, LAND, "walk"), [[NO_NET], [NO_UPTO], [NO_BEGINNING], [NO_BOUND]]),
+    (live_day.is_verdict_paper, (DAY, 12, LAND, "walk", live_day.verdict_paper(DAY, 12, LAND, "walk")),
+     [[NO_NET], [NO_UPTO], [NO_BEGINNING], [NO_BOUND], FREE]),
+    (lambda net, tick, seen: Live(net, tick=tick, seen=seen), (DAY, 12, LAND), [[NO_NET], [NO_UPTO], [NO_BEGINNING]]),
+    (LIVE.later, (17, "board"), [[NO_TICK], [(InvalidOperation, None, [None, "land", "x", ["off"], ("off",), {}, 5, DAY])]]),
+    (LIVE.on, (HARD,), [[NO_NET]]),
+    (LIVE.verdict, ("walk",), [[NO_BOUND]]),
+    (LIVE.verdicts, (), []),
+    (LIVE.answer, (), []),
+    (halves.are_halves, (FIELD, HALL), [[NO_NET], [NO_NET]]),
+    (halves.windows, (FIELD, HALL), [[NO_NET], [NO_NET]]),
+    (halves.whole, (FIELD, HALL), [[NO_NET], [NO_NET]]),
+    (halves.halves_paper, (FIELD, HALL), [[NO_NET], [NO_NET]]),
+    (halves.is_halves_paper, (FIELD, HALL, halves.halves_paper(FIELD, HALL)), [[NO_NET], [NO_NET], FREE]),
+    (halves.narrowed, (FIELD, "on", 4, 9), [[NO_NET], [NO_EVENT], [NO_TICK], [NO_TICK]]),
+    (halves.guested, (HALL, "on", 4, 9), [[NO_NET], [NO_GUEST], [NO_LENGTH], [NO_LENGTH]]),
+    (halves.least_high, (FIELD, "on", 4), [[NO_NET], [NO_EVENT], [NO_TICK]]),
+    (halves.greatest_high, (HALL, "on", 4), [[NO_NET], [NO_GUEST], [NO_LENGTH]]),
+    (halves.fitting, (FIELD, HALL, "on", 4), [[NO_NET], [NO_NET], [NO_COMMON], [NO_TICK]]),
+    (formats.write_net, (DAY,), [[NO_NET]]),
+    (formats.read_net, ("event a 3",), [[NO_LINE]]),
+    (formats.write_list, (HARD, LINES), [[NO_NET], [NO_WRITTEN]]),
+    (formats.read_list, (HARD, formats.write_list(HARD, LINES)), [[NO_NET], [NO_LINE]]),
+    (formats.write_table, (DAY, BOUNDS, WAITS), [[NO_NET], [NO_BOUNDS], [NO_WAITS]]),
+    (formats.read_table, (DAY, formats.write_table(DAY, BOUNDS, WAITS)), [[NO_NET], [NO_LINE]]),
+    (formats.write_day, (DAY, 12, LAND), [[NO_NET], [NO_UPTO], [NO_BEGINNING]]),
+    (formats.read_day, (DAY, "at 12\nseen 12 land"), [[NO_NET], [NO_LINE]]),
+    (shelled, ("net",), [[NO_LINE]]),
     (DAY.row, (("bound", "walk"),), [[NO_DICT]]),
     (DAY.work_of, ("land",), [[NO_PLACE]]),
     (DAY.road, ("land",), [[NO_PLACE]]),
@@ -249,7 +373,7 @@ class CallsTest(unittest.TestCase):
             given = own(right)
             told = call(*given)
             self.assertEqual(shown(given), shown(right))
-            if not isinstance(told, (Net, Play, Walk, Day, Crew, Belt, Lane)):
+            if not isinstance(told, (Net, Play, Walk, Day, Crew, Belt, Lane, Runway, Rules, Live)):
                 self.assertTrue(are_keys_ascending(told))
             again = shown(told)
             self.assertEqual(shown(call(*turned(given))), again)

@@ -140,6 +140,67 @@ Stage 15
 [10, 8, 6, ((4, 10),), True, False]
 >>> [lane.left_by(((0, 6), (4, 4)), 2), lane.fewest_desks(queue=7)[0], lane.fewest_desks(wait=1)]
 [((0, 6, 4), (4, 4, 2)), 3, None]
+
+Stage 16
+>>> from dawnway.parts.runways import Runway
+>>> gaps = {("jet", "jet"): 2, ("jet", "prop"): 4, ("prop", "jet"): 1, ("prop", "prop"): 2}
+>>> runway = Runway({"a": ("jet", 0, 9), "b": ("prop", 0, 9), "c": ("jet", 3, 4)}, gaps)
+>>> [runway.ticks(("a", "b", "c")), runway.end(("a", "c", "b")), runway.least_end(), runway.best(), list(runway.each_sequence(3))]
+[None, 7, 3, ('b', 'a', 'c'), [('b', 'a', 'c')]]
+>>> [runway.paper(3), runway.is_paper(2, ("by", ("b", "a", "c"))), runway.paper(2)[0], Runway({}, {}).paper(0)]
+[('by', ('b', 'a', 'c')), False, 'table', ('by', ())]
+
+Stage 18
+>>> from dawnway.parts.connections import Rules
+>>> rules = Rules({"fly": ("dawn", "in", 3, 9), "hop": ("dawn", "near", 1, 12)}, {"go": (8, (("in", 2, 2), ("near", 1, 4)))})
+>>> [rules.ticks({"fly": 9, "hop": 1}), rules.left({"fly": 9, "hop": 1}), rules.left({"fly": 9, "hop": 12}), rules.pairs]
+[{'go': 10, 'in': 9, 'near': 1}, (('in', 'go'),), (('near', 'go'),), (('in', 'go'), ('near', 'go'))]
+>>> [rules.sure(), rules.with_wait("go", "in", 3).sure(), rules.is_paper(("left", "in", "go"), ("course", {"fly": 9, "hop": 1}))]
+[(), (('in', 'go'),), True]
+
+Stage 19
+>>> from dawnway.mends.lots import cheapest, conflicts, least_mends, left_over, mend_paper, mended
+>>> net = Net({"a": 9, "b": 9}, {}, {"early": ("dawn", "a", 3), "late": ("a", "dawn", -5), "gap": ("b", "a", -4), "near": ("dawn", "b", 8)})
+>>> prices = {"early": 4, "late": 6, "gap": 3}
+>>> [conflicts(net, prices), least_mends(net, prices), cheapest(net, prices)]
+[(('early', 'late'), ('gap', 'late')), (('early', 'gap'), ('late',)), (6, (('late',),))]
+>>> [left_over(net, prices, ("early",)), mended(net, ("late",)) == net, mend_paper(net, {"gap": 3})[0]]
+[(('gap', 'late'),), False, 'never']
+
+Stage 20
+>>> from dawnway.mends.spare import box_paper, full_box, gives, spare, spare_paper, stretched
+>>> net = Net({"in": 9, "on": 12, "off": 20}, {"fly": ("dawn", "in", 2, 5, 0), "load": ("in", "on", 1, 3, 0)}, {"slot": ("dawn", "off", 10), "ready": ("off", "on", 0)})
+>>> [spare(net, ("fly",)), spare(net, ("load",)), spare(net, ("fly", "load")), full_box(net, ("fly", "load")), full_box(net, ("load", "fly"))]
+[2, 2, 1, {'fly': 2, 'load': 0}, {'fly': 0, 'load': 2}]
+>>> far = stretched(net, ("fly",), 3)
+>>> [box_paper(net, {"fly": 1, "load": 0})[:2], spare(far, ("load",)), gives(far, spare_paper(far, ("load",))[2])]
+[('more', 'fly'), None, ('ready', 'slot')]
+
+Stage 21
+>>> from dawnway.live.day import Live, is_beginning, verdict, verdicts
+>>> net = Net({"in": 9, "on": 12, "off": 20}, {"fly": ("dawn", "in", 2, 5, 0), "load": ("in", "on", 1, 3, 0)}, {"slot": ("dawn", "off", 6), "ready": ("off", "on", 0), "turn": ("in", "on", 3)})
+>>> [verdicts(net, 1, ()), verdicts(net, 3, ((2, "in"), (3, "on"))), verdict(net, 6, ((2, "in"), (3, "on")), "slot"), is_beginning(net, 5, ())]
+[{'ready': 'luck', 'slot': 'luck', 'turn': 'luck'}, {'ready': 'sure', 'slot': 'holdable', 'turn': 'sure'}, 'lost', False]
+>>> live = Live(net, tick=3).later(4, "in")
+>>> [live.under_way, live.rest.works["load"], live.later(6, "on").verdict("slot"), live.later(5, "on").verdict("slot"), str(live)]
+[('load',), ('in', 'on', 1, 3, 0), 'lost', 'holdable', 'day at 4: 1 of 3 seen']
+
+Stage 22
+>>> from dawnway.live.halves import fitting, greatest_high, guested, halves_paper, least_high, whole, windows
+>>> field = Net({"in": 9, "on": 12}, {"fly": ("dawn", "in", 2, 5, 0)}, {"taxi": ("in", "on", 3), "lane": ("on", "in", -2), "by": ("dawn", "on", 9), "from": ("on", "dawn", -4)})
+>>> hall = Net({"on": 12, "go": 20}, {"on": ("dawn", "on", 4, 9, 0)}, {"call": ("on", "go", 4), "walk": ("go", "on", -1)})
+>>> [windows(field, hall), halves_paper(field, hall)[0], sorted(list(whole(field, hall).works)), least_high(field, "on", 5), least_high(field, "on", 6)]
+[{'on': (0, 4, 9, 0, True)}, 'table', ['fly'], 7, None]
+>>> [greatest_high(hall, "on", 4), fitting(field, hall, "on", 4), halves_paper(field, guested(hall, "on", 4, 6))]
+[12, (7, 12), ('open', 'on')]
+
+Stage 23
+>>> from dawnway.text.shell import Shell
+>>> shell = Shell()
+>>> [shell(line) for line in ("event in 9", "event on 12", "work fly dawn in 2 5 0", "bound gap on in -2", "answer", "seen 3 in", "verdicts")]
+['done', 'done', 'done', 'done', 'safe', 'done', 'gap holdable']
+>>> [shell("bound by dawn on 4"), shell("verdict by"), shell("undo"), shell("net").split("\n")[2:], str(shell)]
+['done', 'lost', 'done', ['work fly dawn in 2 5 0', 'bound gap on in -2'], 'shell at 3: 2 events']
 '''
 
 
@@ -149,7 +210,7 @@ class ExamplesTest(unittest.TestCase):
         told = []
         result = doctest.DocTestRunner(verbose=False).run(test, out=told.append)
         self.assertEqual("".join(told), "")
-        self.assertEqual((result.attempted, result.failed), (72, 0))
+        self.assertEqual((result.attempted, result.failed), (105, 0))
 
 
 if __name__ == "__main__":

@@ -51,6 +51,33 @@ FUNCTIONS = {
     },
     "dawnway.parts.hands": {"crew_by": "answer, rows, *, walks=()"},
     "dawnway.parts.lanes": {"lane_by": "answer, rows, *, opens=0, pace=1"},
+    "dawnway.parts.weather": {
+        "with_closing": "day, name, place, begin, least, most, *, look=0, gap=0",
+        "with_icing": "day, name, pad, after, off, least, most, hold, *, look=0", "longest_closing": "day, deal, name",
+        "least_hold": "day, deal, name", "latest_look": "day, deal, name", "is_longest": "day, deal, name, value",
+        "is_least_hold": "day, deal, name, value", "is_latest": "day, deal, name, value",
+    },
+    "dawnway.mends.lots": {
+        "conflicts": "net, prices", "least_mends": "net, prices", "cheapest": "net, prices", "mend_paper": "net, prices",
+        "is_mend_paper": "net, prices, value", "mended": "net, lot", "left_over": "net, prices, lot",
+    },
+    "dawnway.mends.spare": {
+        "stretched": "net, works, many", "spare": "net, works", "spare_paper": "net, works", "is_spare_paper": "net, works, value",
+        "full_box": "net, sequence", "box_paper": "net, box", "is_box_paper": "net, box, value", "gives": "net, lines",
+    },
+    "dawnway.live.day": {
+        "is_beginning": "net, tick, value", "rest": "net, tick, seen", "verdict": "net, tick, seen, name",
+        "verdicts": "net, tick, seen", "verdict_paper": "net, tick, seen, name", "is_verdict_paper": "net, tick, seen, name, value",
+    },
+    "dawnway.live.halves": {
+        "are_halves": "one, other", "windows": "one, other", "whole": "one, other", "halves_paper": "one, other",
+        "is_halves_paper": "one, other, value", "narrowed": "net, event, low, high", "guested": "net, work, low, high",
+        "least_high": "net, event, low", "greatest_high": "net, work, low", "fitting": "one, other, event, low",
+    },
+    "dawnway.text.formats": {
+        "write_net": "net", "read_net": "text", "write_list": "net, lines", "read_list": "net, text",
+        "write_table": "net, bounds, waits", "read_table": "net, text", "write_day": "net, tick, seen", "read_day": "net, text",
+    },
 }
 CLASSES = {
     ("dawnway.net.nets", "Net"): {
@@ -89,6 +116,21 @@ CLASSES = {
         "longest_wait": "self, desks", "fewest_desks": "self, *, queue=None, wait=None", "__len__": "self",
         "__eq__": "self, other", "__str__": "self",
     },
+    ("dawnway.parts.runways", "Runway"): {
+        "__init__": "self, moves, gaps", "ticks": "self, sequence", "end": "self, sequence", "least_end": "self", "best": "self",
+        "each_sequence": "self, tick", "paper": "self, tick", "is_paper": "self, tick, value", "__len__": "self",
+        "__eq__": "self, other", "__str__": "self",
+    },
+    ("dawnway.parts.connections", "Rules"): {
+        "__init__": "self, works, deeds", "ticks": "self, course", "left": "self, course", "as_net": "self", "way": "self",
+        "paper": "self, question", "is_paper": "self, question, value", "sure": "self", "with_wait": "self, deed, feeder, wait",
+        "__len__": "self", "__eq__": "self, other", "__str__": "self",
+    },
+    ("dawnway.live.day", "Live"): {
+        "__init__": "self, net, *, tick=None, seen=()", "later": "self, tick, *events", "on": "self, net", "verdict": "self, name",
+        "verdicts": "self", "answer": "self", "__eq__": "self, other", "__str__": "self",
+    },
+    ("dawnway.text.shell", "Shell"): {"__init__": "self", "__call__": "self, line", "__eq__": "self, other", "__str__": "self"},
 }
 PROPERTIES = {
     ("dawnway.net.nets", "Net"): ("lasts", "works", "bounds", "events", "deeds", "ends", "horizon", "told"),
@@ -98,6 +140,23 @@ PROPERTIES = {
     ("dawnway.parts.hands", "Crew"): ("tasks", "walks"),
     ("dawnway.parts.belts", "Belt"): ("flights", "lots", "room", "total"),
     ("dawnway.parts.lanes", "Lane"): ("rows", "opens", "pace", "total"),
+    ("dawnway.parts.runways", "Runway"): ("moves", "gaps", "names"),
+    ("dawnway.parts.connections", "Rules"): ("works", "deeds", "events", "pairs"),
+    ("dawnway.live.day", "Live"): ("net", "tick", "seen", "rest", "broken", "under_way"),
+}
+CONSTANTS = {
+    "dawnway.base.names": {"DAWN": "dawn", "MAX_LETTERS": 12, "MAX_TICK": 10 ** 34, "MAX_LENGTH": 10 ** 30, "MAX_LOOK": 20},
+    "dawnway.net.nets": {"MAX_EVENTS": 200, "MAX_WORKS": 60, "MAX_BOUNDS": 400},
+    "dawnway.play.plays": {"MAX_ASKS": 2000},
+    "dawnway.rule.rows": {"RULES": ("joined", "early", "first", "late", "both", "sure")},
+    "dawnway.parts.days": {"MAX_PLACES": 20, "MAX_USES": 60},
+    "dawnway.parts.deals": {"MAX_OPEN": 10},
+    "dawnway.parts.hands": {"MAX_TASKS": 60},
+    "dawnway.parts.belts": {"MAX_LOTS": 40, "MAX_BAGS": 400},
+    "dawnway.parts.runways": {"MAX_MOVES": 12},
+    "dawnway.parts.connections": {"MAX_CASES": 4096},
+    "dawnway.mends.lots": {"MAX_PRICED": 8},
+    "dawnway.live.day": {"MAX_LIVE": 200, "VERDICTS": ("sure", "holdable", "luck", "lost")},
 }
 
 
@@ -108,6 +167,11 @@ class InterfaceTest(unittest.TestCase):
                 told = getattr(import_module(module), name)
                 self.assertEqual(told.__module__, module)
                 self.assertEqual(str(inspect.signature(told)), f"({parameters})", name)
+
+    def test_constants(self):
+        for module, constants in CONSTANTS.items():
+            for name, value in constants.items():
+                self.assertEqual(getattr(import_module(module), name), value, name)
 
     def test_methods_stand_in_their_class(self):
         for (module, name), methods in CLASSES.items():

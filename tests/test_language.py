@@ -18,7 +18,7 @@ METHODS = set(
     "join keys ljust lower lstrip partition pop remove replace reverse rfind rjust rpartition rsplit rstrip setdefault "
     "split splitlines startswith strip update upper values zfill bit_length".split()
 )
-DOUBLE = {"__init__", "__eq__", "__str__", "__len__", "__contains__"}
+DOUBLE = {"__init__", "__eq__", "__str__", "__len__", "__contains__", "__call__"}
 BARRED = {
     "mro", "elements", "open", "input", "law", "version_info", "with_traceback", "add_note", "register", "type", "typing",
     "enum", "Enum", "namedtuple", "Protocol", "Generic", "ABC", "dataclass", "overload", "contextmanager", "_wall",

@@ -75,7 +75,7 @@ class Closing:
 
     def keeps(self, first, second, most):
         """Whether a bound for two events is covered by the one that is there."""
-        return self._sums[self._places[first]][self._places[second]] <= most
+        return self.number(first, second) <= most
 
     def as_table(self):
         """The bounds and the waits of the closure, as two dicts, or None if there is none."""
@@ -94,7 +94,19 @@ class Closing:
 
     def as_list(self):
         """The lines that lead to the bound below 0, if there is one."""
-        used = lines_under(self._lines, self._last)
+        return self._lines_to(self._last)
+
+    def number(self, first, second):
+        """The number of the bound for two different events that is there."""
+        return self._sums[self._places[first]][self._places[second]]
+
+    def lines_to(self, first, second):
+        """The lines that lead to the bound for two different events that is there."""
+        return self._lines_to(self._origins[self._places[first]][self._places[second]])
+
+    def _lines_to(self, last):
+        """The lines that lead to one of them."""
+        used = lines_under(self._lines, last)
         places = {index: at for at, index in enumerate(used)}
         return tuple([self._told_line(places, index) for index in used])
 

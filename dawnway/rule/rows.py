@@ -91,6 +91,11 @@ def lines_under(lines, last):
     return sorted(used)
 
 
+def bounds_used(lines):
+    """The names of the bounds that are words of the lines of a list, ascending."""
+    return sorted(set([why[1] for _, why in lines if why[0] == "bound"]))
+
+
 def _need_row(net, value):
     if not is_row(net, value):
         raise InvalidRow("no row of the net")

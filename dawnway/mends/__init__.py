@@ -1,0 +1,1 @@
+"""Mends: the cheapest promises to take back, and how much longer works can become."""

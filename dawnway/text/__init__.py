@@ -1,0 +1,1 @@
+"""Texts of nets, lists, tables and beginnings, and a shell that takes commands."""
