@@ -420,6 +420,24 @@ class PaperTest(unittest.TestCase):
         only = (("x", "go", 0), ("go", "x", -1))
         self.assertIs(rules.is_paper(question, ("tree", ("ring", only))), False)
 
+    def test_dawn_behind_dawn_is_no_triple(self):
+        rules = Rules({"w": ("dawn", "x", 2, 4)}, {"go": (0, (("x", 1, 9),))})
+        question = ("left", "x", "go")
+        tree = rules.paper(question)[1]
+        for more, right in ((("x", "dawn", 0), False), (("dawn", "dawn", 0), False)):
+            told = changed(tree, lambda ring: ("ring", (more, *ring[1])))
+            self.assertIs(rules.is_paper(question, ("tree", told)), right)
+        # Where it would fit by its events, too.
+        ring = (("dawn", "dawn", 0), ("dawn", "x", -5), ("x", "dawn", -2))
+        self.assertIs(rules.is_paper(question, ("tree", ("deed", "go", (("ring", ring),) * 4))), False)
+        late = Rules({"w": ("dawn", "x", 5, 6)}, {"go": (0, (("x", 0, 1),))})
+        kind, tree = late.paper(("caught", "x", "go"))
+        self.assertEqual(kind, "tree")
+        at_dawn = changed(tree, lambda ring: ("ring", with_dawn(ring[1])))
+        self.assertIs(late.is_paper(("caught", "x", "go"), ("tree", tree)), True)
+        self.assertNotEqual(at_dawn, tree)
+        self.assertIs(late.is_paper(("caught", "x", "go"), ("tree", at_dawn)), False)
+
     def test_a_sum_of_0(self):
         rules = Rules({"w": ("dawn", "x", 2, 2)}, {"go": (0, (("x", 1, 9),))})
         question = ("left", "x", "go")
@@ -470,6 +488,14 @@ def plain_safe(rules, question, value):
         return isinstance(value[2], tuple) and plain_is_tree(rules, question, value)
     except (TypeError, IndexError, KeyError, ValueError):
         return False
+
+
+def with_dawn(ring):
+    """The ring with (dawn, dawn, 0) ahead of a triple that begins at dawn."""
+    for at, bound in enumerate(ring):
+        if bound[0] == "dawn":
+            return (*ring[:at], ("dawn", "dawn", 0), *ring[at:])
+    return ring
 
 
 class ManyCasesTest(unittest.TestCase):

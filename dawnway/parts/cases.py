@@ -50,13 +50,10 @@ class CaseBook:
 
     def is_tree(self, edge, value):
         """Whether the value is a tree of the question with this bound."""
-        allowed = {edge: True}
+        told_anyway = [edge, *[(deed, DAWN, 0) for deed in self._deeds]]
         for name in self._works:
-            begin, end, _, _ = self._works[name]
-            for bound in [*self._work_bounds(name), (begin, DAWN, 0), (end, DAWN, 0)]:
-                allowed[bound] = True
-        for deed in self._deeds:
-            allowed[(deed, DAWN, 0)] = True
+            told_anyway.extend([*self._work_bounds(name), (self._works[name][1], DAWN, 0)])
+        allowed = {bound: True for bound in told_anyway}
         left = [(value, {})]
         while left != []:
             node, told = left.pop()

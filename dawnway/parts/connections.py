@@ -1,6 +1,6 @@
 """Connections: deeds that wait for feeders, for so long, and which of these they leave or catch."""
 
-from dawnway.base.names import MAX_LENGTH, is_between, is_pair, is_tick
+from dawnway.base.names import MAX_LENGTH, is_between, is_pair, is_seen, is_tick
 from dawnway.errors import InvalidCourse, InvalidDay, InvalidNumber, InvalidOperation, TooMany, UnknownName
 from dawnway.net.nets import Net
 from dawnway.parts.cases import CaseBook
@@ -68,6 +68,8 @@ class Rules:
 
         def ruled(tick, seen):
             """The deeds whose tick is there, and the next tick at which one comes if nothing more is seen."""
+            if not is_tick(tick) or not is_seen(seen):
+                raise InvalidOperation("no tick, or nothing that is seen")
             return _step_of(deeds, tick, seen)
 
         return ruled
