@@ -303,6 +303,11 @@ class CourseTest(unittest.TestCase):
         self.assertEqual(rules.way()(0, ()), ((), FAR))
         self.assertEqual(rules.way()(3, ((3, "x"),)), ((), 5))
 
+    def test_what_the_way_can_not_be_asked(self):
+        for given in ((-1, ()), (True, ()), (None, ()), (10 ** 34 + 1, ()), (3, None), (3, []), (3, ((4, "in"), (3, "near"))), (3, ((3, 5),)), (3, 7)):
+            with self.assertRaises(InvalidOperation):
+                RULES.way()(*given)
+
     def test_the_way_does_all_of_a_tick(self):
         rules = Rules({"w": ("dawn", "x", 1, 9)}, {"a": (0, (("x", 0, 9),)), "b": (0, (("a", 0, 9),)), "c": (0, (("b", 1, 9),))})
         self.assertEqual(rules.way()(2, ((2, "x"),)), (("a", "b"), 3))
@@ -437,6 +442,25 @@ class PaperTest(unittest.TestCase):
         self.assertIs(late.is_paper(("caught", "x", "go"), ("tree", tree)), True)
         self.assertNotEqual(at_dawn, tree)
         self.assertIs(late.is_paper(("caught", "x", "go"), ("tree", at_dawn)), False)
+
+    def test_parts_that_are_no_triples(self):
+        tree = RULES.with_wait("go", "in", 3).paper(LEFT)[1]
+        rules = RULES.with_wait("go", "in", 3)
+        self.assertIs(rules.is_paper(LEFT, ("tree", tree)), True)
+        for word in ("leaf", "course", "", None):
+            self.assertIs(rules.is_paper(LEFT, (word, tree)), False)
+            self.assertIs(rules.is_paper(LEFT, ("tree", changed(tree, lambda ring: (word, ring[1])))), False)
+        for wrong in ((["in"], "dawn", 0), ("in", ["dawn"], 0), ({}, "dawn", 0), ("in", {}, 0), ("in", "dawn", []), ("in", "dawn"),
+                      ("in", "dawn", 0, 0), ["in", "dawn", 0], (1, 2, 3), None, "in"):
+            value = changed(tree, lambda ring: ("ring", (wrong, *ring[1])))
+            self.assertIs(rules.is_paper(LEFT, ("tree", value)), False)
+
+    def test_works_on_which_nothing_hangs(self):
+        rules = Rules({**WORKS, "far": ("go", "home", 4, 7), "other": ("dawn", "away", 1, 2)}, DEEDS)
+        kind, course = paper = rules.paper(LEFT)
+        self.assertEqual((kind, list(course)), ("course", ["far", "fly", "hop", "other"]))
+        self.assertIs(rules.is_paper(LEFT, paper), True)
+        self.assertIn(("in", "go"), rules.left(course))
 
     def test_a_sum_of_0(self):
         rules = Rules({"w": ("dawn", "x", 2, 2)}, {"go": (0, (("x", 1, 9),))})

@@ -315,6 +315,11 @@ class DayTextTest(TextTest):
 
 
 class IntegerTest(TextTest):
+    def test_thousands_of_digits(self):
+        for word in ("9" * 5000, "-" + "9" * 5000, "1" * 8000, "0" * 6000):
+            self.fails(0, read_table, DAY, f"bound dawn off {word}")
+            self.fails(0, read_day, DAY, f"at {word}")
+
     def test_forty_digits_and_forty_one(self):
         for number in (FAR, -FAR, 10 ** 39):
             self.assertEqual(read_table(DAY, f"bound dawn off {number}")[0], {("dawn", "off"): number})

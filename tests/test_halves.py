@@ -225,7 +225,11 @@ class HalvesPaperTest(unittest.TestCase):
             self.assertIs(is_halves_paper(FIELD, HALL, value), False)
         for half in (True, 2, -1, "1", None, 0, (1,)):
             self.assertIs(is_halves_paper(FIELD, hard, ("list", half, lines)), False)
-        for value in (("list", 1), ("list", 1, lines[:-1]), ["list", 1, lines], ("list", 1, ("list", lines)), ("list", lines, 1)):
+        for half in (True, False, 1, 2, -1, "0", None, (0,)):
+            self.assertIs(is_halves_paper(hard, FIELD, ("list", half, lines)), False)
+        self.assertIs(is_halves_paper(hard, FIELD, ("list", 0, lines)), True)
+        self.assertIs(is_halves_paper(FIELD.without("by"), HALL, ("opens", "on")), False)
+        for value in (("lists", 1, lines), ("table", 1, lines), ("list", 1), ("list", 1, lines[:-1]), ["list", 1, lines], ("list", 1, ("list", lines)), ("list", lines, 1)):
             self.assertIs(is_halves_paper(FIELD, hard, value), False)
         narrow = closure(FIELD.with_bounds({"more": ("on", "dawn", -5)}))
         self.assertIs(is_halves_paper(FIELD, HALL, ("table", narrow, other)), True)
@@ -414,7 +418,8 @@ class WindowTest(unittest.TestCase):
         self.raises(InvalidOperation, fitting, DAY, HARD, "x", -1)
         for event in ("x", "in", "go", "dawn", "", None, True, 5, ["on"], ("on",), {}, FIELD):
             self.assertTrue(is_same(self.raises(UnknownName, fitting, FIELD, HALL, event, -1).wanted, event))
-        self.raises(UnknownName, fitting, HALL, FIELD, "on", 4)
+        for low in (4, -1):
+            self.raises(UnknownName, fitting, HALL, FIELD, "on", low)
         for low in (0, -1, True, None, "4", (4,), 10 ** 34 + 1, 10 ** 59):
             self.assertTrue(is_same(self.raises(InvalidNumber, fitting, FIELD, HALL, "on", low).given, low))
         late = Net({"in": 9, "on": 12}, {"taxi": ("in", "on", 1, 3, 2)}, FIELD.bounds)

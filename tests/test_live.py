@@ -396,6 +396,16 @@ class VerdictTest(unittest.TestCase):
         own = ((("bound", "in", "on", 3), ("bound", "turn")),)
         self.assertIs(is_verdict_paper(NET, 3, seen, "turn", ("sure", table, own)), False)
 
+    def test_a_wait_for_a_work_that_is_called_like_the_event(self):
+        works = {"fly": ("dawn", "in", 2, 5, 0), "on": ("in", "on", 1, 3, 0)}
+        net = Net({"in": 9, "on": 12}, works, {"turn": ("in", "on", 3)})
+        kind, table, lines = verdict_paper(net, None, (), "turn")
+        self.assertEqual(kind, "sure")
+        wait = ((("bound", "in", "on", 3), ("most", "on")), (("wait", "in", "on", 0), ("first", 0)))
+        self.assertEqual(list_fault(net.without("turn"), wait), ("end", None))
+        self.assertIs(is_verdict_paper(net, None, (), "turn", (kind, table, wait)), False)
+        self.assertIs(is_verdict_paper(net, None, (), "turn", (kind, table, wait[:1])), True)
+
     def test_lists_that_end_below_0_and_tables_that_are_not_the_closure(self):
         left = rest(NET, 3, ((2, "in"), (3, "on")))
         bounds, waits = closure(left.with_bounds({"more": ("off", "dawn", -5)}))

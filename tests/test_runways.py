@@ -122,6 +122,12 @@ class RunwayTest(unittest.TestCase):
         with self.assertRaises(InvalidDay):
             Runway({}, {("jet", "jet"): 1})
 
+    def test_wrong_kinds(self):
+        for kind in ("dawn", "Jet", "7", "x" * 13, "", 5, True):
+            with self.assertRaises(InvalidDay):
+                Runway({"a": (kind, 0, 1)}, {(kind, kind): 0})
+        self.assertEqual(len(Runway({"a": ("x" * 12, 0, 1)}, {("x" * 12, "x" * 12): 0})), 1)
+
     def test_the_triangle(self):
         three = {"a": ("k", 0, 9), "b": ("l", 0, 9), "c": ("m", 0, 9)}
         gaps = {(one, other): 3 for one in "klm" for other in "klm"}
@@ -158,6 +164,15 @@ class RunwayTest(unittest.TestCase):
         gaps = {(one, other): 2 + (ord(one) * 7 + ord(other) * 11) % 3 for one in kinds for other in kinds}
         runway = Runway(moves, gaps)
         self.assertEqual(runway.end(runway.best()), runway.least_end())
+
+    def test_a_move_that_has_to_go_first(self):
+        # Whoever tries all sequences ascending comes to it after 39 million others.
+        moves = {f"m{index:02}": ("k", 0, 11) for index in range(11)}
+        for first in (0, 5):
+            runway = Runway({**moves, "zz": ("k", first, first)}, {("k", "k"): 1})
+            best = (*sorted(moves)[:first], "zz", *sorted(moves)[first:])
+            self.assertEqual((runway.best(), next(runway.each_sequence(11))), (best, best))
+            self.assertEqual(runway.paper(10)[0], "table")
 
 
 class SequenceTest(unittest.TestCase):
@@ -317,6 +332,8 @@ class RunwayPaperTest(unittest.TestCase):
         for value in (None, (), ("by",), ["by", ("b", "a", "c")], ("by", ("b", "a", "c"), 1), ("table", table), ("table", {}),
                       ("table", None), ("best", ("b", "a", "c")), ("table", []), ("by", table)):
             self.assertIs(RUNWAY.is_paper(3, value), False)
+        for value in (("best", table), ("by", table), ("table", {**table, (("a", "b", "c", "x"), "jet"): 5})):
+            self.assertIs(RUNWAY.is_paper(2, value), False)
         for key in ((), ("a",), (("a",), "prop"), (("a",), 1), (("b", "a"), "jet"), ((), "jet"), (("x",), "jet"), (("a", "x"), "jet"),
                     (("a", "a"), "jet"), ("a", "jet")):
             self.assertIs(RUNWAY.is_paper(2, ("table", {**table, key: 5})), False, key)

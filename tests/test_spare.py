@@ -47,7 +47,8 @@ class StretchedTest(unittest.TestCase):
                     self.assertEqual((told.lasts, told.bounds), (net.lasts, net.bounds))
 
     def test_what_are_no_works(self):
-        for works in (None, (), [], ["fly"], "fly", 5, ("x",), ("load", "fly"), ("fly", "fly"), ("in",), ("fly", 1), {"fly": 1}, {}):
+        for works in (None, (), [], ["fly"], "fly", 5, ("x",), ("load", "fly"), ("fly", "fly"), ("in",), ("fly", 1), {"fly": 1}, {},
+                      ("fly", "x"), ("a", "fly")):
             for call in (lambda net, works: stretched(net, works, None), spare, spare_paper,
                          lambda net, works: is_spare_paper(net, works, None)):
                 with self.assertRaises(InvalidOperation, msg=works):
@@ -143,6 +144,25 @@ class SpareTest(unittest.TestCase):
         many, told, lines = spare_paper(net, ("w",))
         self.assertEqual(many, 2)
         self.assertTrue(is_list(stretched(net, ("w",), 3), lines))
+
+    def test_two_works_near_the_greatest_length(self):
+        net = Net({"x": FAR, "y": FAR}, {"v": ("dawn", "x", 1, FAR - 1, 0), "w": ("dawn", "y", 1, 1, 0)})
+        self.assertEqual([spare(net, works) for works in (("v",), ("w",), ("v", "w"))], [1, FAR - 1, 1])
+        self.assertEqual(full_box(net, ("w", "v")), {"v": 1, "w": FAR - 1})
+        self.assertEqual(box_paper(net, {"v": 1, "w": 0})[:2], ("more", "w"))
+        self.assertIs(is_box_paper(net, {"v": 1, "w": 0}, ("more", "v", answer(longer(net, {"v": 1})))), False)
+
+    def test_a_list_for_two_ticks_more(self):
+        seen = set()
+        for net in small_nets(30):
+            for works in lots_of(net):
+                many, told, _ = spare_paper(net, works)
+                if many is not None:
+                    lines = answer(longer(net, at_all(works, many + 2)))[1]
+                    right = is_list(longer(net, at_all(works, many + 1)), lines)
+                    self.assertIs(is_spare_paper(net, works, (many, told, lines)), right)
+                    seen.add(right)
+        self.assertIn(False, seen)
 
     def test_judging_accepts_every_value(self):
         many, told, lines = spare_paper(NET, ("fly",))

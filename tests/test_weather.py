@@ -92,6 +92,12 @@ class ClosingTest(unittest.TestCase):
         self.assertEqual(later.gap("st", "fog"), 7)
         self.assertEqual(later.gap("fog", "fog"), 7)
         self.assertEqual(later.gap("a", "fog"), 7)
+        # One with the kind on one side alone is enough; a place that is called like it is none.
+        for kinds in (("closed", "k"), ("k", "closed")):
+            one = Day(STAND, ("closed", "s1"), uses={"a": ("s1", "ina", "outa", "closed"), "b": ("s1", "inb", "outb", "k")}, gaps={("s1", *kinds): 3})
+            self.assertEqual(with_closing(one, "st", "s1", 5, 3, 8, gap=2).gaps, {("s1", *kinds): 3})
+        shut = Day(STAND, ("closed",), uses={"a": ("closed", "ina", "outa", "k")}, gaps={("closed", "k", "k"): 3})
+        self.assertEqual(with_closing(shut, "st", "closed", 5, 3, 8, gap=2).gap("a", "st"), 2)
         # Those of another place are no gaps of this one.
         two = Day(STAND, ("s1", "s2"), uses={"a": ("s1", "ina", "outa", "closed"), "b": ("s2", "inb", "outb", "k")},
                   gaps={("s1", "closed", "closed"): 3})
@@ -411,7 +417,13 @@ class ExtremesTest(unittest.TestCase):
         self.assertEqual(is_answer(tight.net.with_lengths({"st": (2, 2)}).with_lasts({"st.z": 3}), value[2]), True)
         zero = day.with_net(day.net.with_lasts({"st.z": 2}))
         value = longest_closing(zero, {"s": ("st",)}, "st")
+        exact = answer(zero.net.with_lengths({"st": (2, 2)}).with_lasts({"st.z": 0}))
         self.assertTrue(is_answer(zero.net.with_lengths({"st": (2, 2)}).with_lasts({"st.z": 0}), value[2]))
+        self.assertIs(is_longest(zero, {"s": ("st",)}, "st", (None, None, exact)), True)
+        lines = ((("bound", "dawn", "st.z", 0), ("last", "st.z")), (("bound", "st.z", "st.a", -2), ("least", "st")),
+                 (("bound", "dawn", "st.a", -2), ("joined", 0, 1)), (("bound", "st.a", "dawn", 0), ("begin", "st.a")),
+                 (("bound", "dawn", "dawn", -2), ("joined", 2, 3)))
+        self.assertIs(is_longest(zero, {"s": ("st",)}, "st", (None, None, ("list", lines))), True)
 
     def test_a_hold_that_bars_nothing_below_the_horizon(self):
         net = Net({"a": 5, "z": 9, "off": 9}, {"w": ("a", "z", 1, 2, 0)}, {"ice": ("z", "off", 0), "far": ("off", "z", -10)})

@@ -159,7 +159,8 @@ def is_verdict_paper(net, tick, seen, name, value):
     if word != "holdable" or not is_closed(left, one) or not is_closed(free, other):
         return False
     first, second, most = left.bounds[name]
-    return (first, second) not in other[0] or other[0][(first, second)] > most
+    # A closed table has a bound for each two events, over dawn.
+    return other[0][(first, second)] > most
 
 
 def _known_ticks(net, seen):
@@ -234,15 +235,32 @@ def _verdicts_of(left, names):
     if closing.is_barred():
         word = "luck" if has_times(left) else "lost"
         return {name: word for name in names}
-    return {name: "sure" if _is_sure(left, closing, name) else "holdable" for name in names}
+    bounds = left.bounds
+    asked = []
+    for name in names:
+        first, second, _ = bounds[name]
+        # What hangs on other rows alone is made of them without the bound, too.
+        if name in bounds_used(closing.lines_to(first, second)):
+            asked.append(name)
+    lasting = _holdable_among(closing_of(left.without(*asked)), bounds, asked)
+    return {name: "holdable" if name in lasting else "sure" for name in names}
 
 
-def _is_sure(left, closing, name):
-    """Whether a bound of a rest that has a table is made of the other rows."""
-    first, second, most = left.bounds[name]
-    if name not in bounds_used(closing.lines_to(first, second)):
-        return True
-    return closing_of(left.without(name)).keeps(first, second, most)
+def _holdable_among(closing, bounds, asked):
+    """Those of the bounds that are not made of all others; the closing has all rows but these."""
+    if len(asked) <= 1:
+        return [name for name in asked if not _is_kept(closing, bounds[name])]
+    half = len(asked) // 2
+    found = []
+    for here, others in ((asked[:half], asked[half:]), (asked[half:], asked[:half])):
+        rows = [(*bounds[name], ("bound", name)) for name in others]
+        found.extend(_holdable_among(closing.beside_all(rows), bounds, here))
+    return found
+
+
+def _is_kept(closing, bound):
+    first, second, most = bound
+    return closing.keeps(first, second, most)
 
 
 def _are_lines_to(net, value, bound):

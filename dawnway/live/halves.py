@@ -3,7 +3,7 @@
 from dawnway.base.names import DAWN, MAX_LENGTH, is_between, is_pair, is_tick
 from dawnway.base.search import greatest_good, least_good
 from dawnway.errors import InvalidNumber, InvalidOperation, TooMany, UnknownName
-from dawnway.net.faults import bounds_fault, works_fault
+from dawnway.net.faults import works_fault
 from dawnway.net.needs import need_net
 from dawnway.net.nets import MAX_BOUNDS, MAX_EVENTS, MAX_WORKS, Net
 from dawnway.rule.closing import closing_of
@@ -21,8 +21,9 @@ def are_halves(one, other):
         return False
     if not all([_is_guest(one, event) or _is_guest(other, event) for event in _common(one, other)]):
         return False
-    lasts, works, bounds = _whole_parts(one, other)
-    return works_fault(lasts, works, len(works)) is None and bounds_fault(lasts, bounds, len(bounds)) is None
+    # Of a whole that is no net only works can be the fault, as all events of its bounds are there.
+    lasts, works, _ = _whole_parts(one, other)
+    return works_fault(lasts, works, len(works)) is None
 
 
 def windows(one, other):
@@ -105,10 +106,9 @@ def least_high(net, event, low):
 def greatest_high(net, work, low):
     """The greatest last tick of a guest's window with which the net is safe, or None."""
     _need_guest(net, work, low)
-    last = net.lasts[work]
-    if low > last or not is_safe(net.with_lengths({work: (low, low)})):
+    if not is_safe(net.with_lengths({work: (low, low)})):
         return None
-    return greatest_good(lambda high: is_safe(net.with_lengths({work: (low, high)})), low, last)
+    return greatest_good(lambda high: is_safe(net.with_lengths({work: (low, high)})), low, net.lasts[work])
 
 
 def fitting(one, other, event, low):

@@ -143,11 +143,11 @@ def _boxed(net, box):
 
 
 def _spare_at(net, box, works):
-    """The most ticks that each of the works can take more than a box gives them. The net is safe under the box."""
+    """The most ticks that each of the works can take beside a box that gives them none. The net is safe under it."""
     told = net.works
     lasts = net.lasts
     # No work can end behind the last tick of its end.
-    limit = min([lasts[told[work][1]] - told[work][3] - box[work] for work in works])
+    limit = min([lasts[told[work][1]] - told[work][3] for work in works])
     return greatest_good(lambda many: is_safe(_boxed(net, _more(box, works, many))), 0, limit)
 
 

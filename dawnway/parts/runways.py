@@ -206,7 +206,7 @@ class Runway:
         if not isinstance(value, dict):
             return False
         for key in value:
-            if not is_pair(key) or not is_names(key[0]) or key[0] == () or not is_tick(value[key]):
+            if not is_pair(key) or not is_names(key[0]) or not is_tick(value[key]):
                 return False
             names, kind = key
             if not all([name in self._moves for name in names]):

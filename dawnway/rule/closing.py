@@ -54,6 +54,10 @@ class Closing:
 
     def beside(self, first, second, most, word):
         """The closing of the same rows and one told bound more; this one stays as it is."""
+        return self.beside_all([(first, second, most, word)])
+
+    def beside_all(self, rows):
+        """The closing of the same rows and some told bounds more; this one stays as it is."""
         other = Closing(self._net)
         other._sums = [list(row) for row in self._sums]
         other._origins = [list(row) for row in self._origins]
@@ -61,11 +65,15 @@ class Closing:
         other._reasons = [list(row) for row in self._reasons]
         other._lines = list(self._lines)
         other._last = self._last
-        one = self._places[first]
-        at = self._places[second]
-        if other._take(one, at, most, word):
-            other._join_back(one, at)
-            other._join_over(at)
+        changed = False
+        for first, second, most, word in rows:
+            one = self._places[first]
+            at = self._places[second]
+            if other._take(one, at, most, word):
+                other._join_back(one, at)
+                other._join_over(at)
+                changed = True
+        if changed:
             other._go_on()
         return other
 
