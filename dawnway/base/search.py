@@ -3,12 +3,15 @@
 
 def greatest_good(is_good, low, high):
     """The greatest number up to `high` that is good; `low` is known to be good."""
+    # Nothing bars the last number, or what is looked for is near the first one, as a rule: so the last one is
+    # tried at once, and then the steps grow, and only then what is left is halved.
+    if low == high or is_good(high):
+        return high
     step = 1
-    # What is looked for is near the begin as a rule: so the steps grow, and only then what is left is halved.
-    while low + step <= high and is_good(low + step):
+    while low + step < high and is_good(low + step):
         low += step
         step *= 2
-    high = min(high, low + step - 1)
+    high = min(high, low + step) - 1
     while low < high:
         mid = (low + high + 1) // 2
         if is_good(mid):
