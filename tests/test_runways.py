@@ -251,6 +251,11 @@ class SequenceTest(unittest.TestCase):
         for pair in combinations(tight, 2):
             self.assertEqual(Runway({name: tight[name] for name in pair}, gap).best(), pair)
 
+    def test_neighbours_exchanged_for_a_lesser_gap(self):
+        runway = Runway({"a": ("jet", 0, 9), "b": ("prop", 3, 9), "c": ("jet", 0, 9)}, GAPS)
+        self.assertLess(GAPS[("prop", "jet")], GAPS[("jet", "prop")])
+        self.assertEqual((runway.end(("a", "b", "c")), runway.end(("b", "a", "c"))), (5, 6))
+
     def test_moves_of_one_kind_go_by_their_windows(self):
         for runway in small_runways(120):
             moves = runway.moves
