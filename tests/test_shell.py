@@ -124,13 +124,48 @@ class CommandTest(ShellTest):
                            ("spare fly,in", "in"), ("spare dawn", "dawn"), ("windows x", "x"), ("windows in,y,x", "y"), ("windows slot", "slot")):
             self.fails(shell, line, UnknownName, "wanted", name)
 
+    def test_dawn_is_no_event_to_be_seen(self):
+        shell = shell_of(*START)
+        for line, name in (("seen 3 dawn", "dawn"), ("seen 3 in,dawn", "dawn"), ("seen 3 dawn,in", "dawn"), ("seen 0 dawn", "dawn"), ("seen -1 dawn", "dawn"),
+                           (f"seen {FAR} dawn", "dawn"), ("seen 3 dawn,x", "dawn"), ("seen 3 x,dawn", "x"), ("seen 9 off,dawn", "dawn")):
+            self.fails(shell, line, UnknownName, "wanted", name)
+        self.assertEqual(shell("seen 3 in"), "done")
+        # It is told ahead of a tick that is none greater, and of what is no beginning.
+        for line in ("seen 3 dawn", "seen 2 dawn", "seen 4 in,dawn", "seen 5 dawn", "seen 5 dawn,on", "seen 9 dawn"):
+            self.fails(shell, line, UnknownName, "wanted", "dawn")
+        self.fails(shell, "seen 3 y,dawn", UnknownName, "wanted", "y")
+        self.assertEqual([shell("seen 5 on"), shell("day")], ["done", "at 5\nseen 3 in\nseen 5 on"])
+        self.fails(Shell(), "seen 3 dawn", InvalidNet)
+        self.parse_fails(shell, "seen x dawn", "seen 6 dawn,dawn")
+
+    def test_dawn_has_no_window(self):
+        barred = shell_of(*START, "bound slot dawn off 5", "seen 3 in")
+        self.assertEqual(barred("windows on"), "barred")
+        other = shell_of("event a 5", "event b 5", "bound deed.x a b 5")
+        self.fails(other, "windows a", InvalidOperation)
+        # It is told ahead of the errors of the rest, too.
+        for shell in (shell_of(*START), shell_of(*START, "seen 3 in"), barred):
+            for line, name in (("windows dawn", "dawn"), ("windows in,dawn", "dawn"), ("windows dawn,on,in", "dawn"), ("windows dawn,x", "dawn"),
+                               ("windows x,dawn", "x"), ("windows in,x,dawn", "x")):
+                self.fails(shell, line, UnknownName, "wanted", name)
+        self.fails(other, "windows a,dawn", UnknownName, "wanted", "dawn")
+        self.fails(Shell(), "windows dawn", InvalidNet)
+        self.parse_fails(other, "windows dawn,dawn")
+        self.assertEqual(shell_of("event a 5", "event b 7")("windows b,a"), "b 0 7\na 0 5")
+
+    def test_dawn_in_works_and_bounds(self):
+        shell = shell_of("event a 5", "event b 7", "work w dawn a 1 2 0", "bound x dawn b 6", "bound y b dawn -1")
+        self.assertEqual(shell("windows a,b"), "a 1 2\nb 1 6")
+        self.fails(shell, "work v dawn dawn 1 2 0", InvalidNet)
+        self.fails(shell, "bound z dawn dawn 1", InvalidNet)
+
     def test_the_beginning(self):
         shell = shell_of(*START)
         self.assertEqual(shell("seen 3 in"), "done")
         self.assertEqual((shell("day"), str(shell)), ("at 3\nseen 3 in", "shell at 3: 3 events"))
         for line, tick in (("seen 3 -", 3), ("seen 2 -", 2), ("seen -4 on", -4), (f"seen {10 ** 34 + 1} -", 10 ** 34 + 1)):
             self.fails(shell, line, InvalidNumber, "given", tick)
-        for line in ("seen 7 -", "seen 7 on", "seen 4 in", "seen 4 in,on", "seen 5 dawn", "seen 5 dawn,on"):
+        for line in ("seen 7 -", "seen 7 on", "seen 4 in", "seen 4 in,on"):
             self.fails(shell, line, InvalidOperation)
         self.assertEqual([shell("seen 4 -"), shell("seen 6 on,off")], ["done", "done"])
         self.assertEqual(shell("day"), "at 6\nseen 3 in\nseen 6 off\nseen 6 on")
@@ -187,7 +222,6 @@ class CommandTest(ShellTest):
             told = [f"{event} {-bounds[(event, 'dawn')]} {bounds[('dawn', event)]}" for event in events]
             self.assertEqual(shell("windows " + ",".join(events)), "\n".join(told))
         self.assertEqual(shell("windows -"), "")
-        self.assertEqual(shell("windows in,dawn"), "in 3 3\ndawn 0 0")
         self.fails(shell, "spare -", InvalidOperation)
         self.assertEqual(shell_of("event a 3")("verdicts"), "")
 

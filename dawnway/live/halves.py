@@ -4,7 +4,7 @@ from dawnway.base.names import DAWN, MAX_LENGTH, is_between, is_pair, is_tick
 from dawnway.base.search import greatest_good, least_good
 from dawnway.errors import InvalidNumber, InvalidOperation, TooMany, UnknownName
 from dawnway.net.faults import works_fault
-from dawnway.net.needs import need_net
+from dawnway.net.needs import need_event, need_net
 from dawnway.net.nets import MAX_BOUNDS, MAX_EVENTS, MAX_WORKS, Net
 from dawnway.rule.closing import closing_of
 from dawnway.rule.rows import is_list
@@ -71,7 +71,8 @@ def is_halves_paper(one, other, value):
 
 def narrowed(net, event, low, high):
     """The net with two bounds more: the event comes within a window."""
-    _need_event(net, event)
+    need_net(net)
+    need_event(net, event)
     _need_low(low)
     if not is_tick(high) or high < low:
         raise InvalidNumber(high)
@@ -90,7 +91,8 @@ def guested(net, work, low, high):
 
 def least_high(net, event, low):
     """The least last tick of a window that the net can promise, or None."""
-    _need_event(net, event)
+    need_net(net)
+    need_event(net, event)
     _need_low(low)
     _need_free_names(net, event)
     first, last = _window_names(net, event)
@@ -183,12 +185,6 @@ def _window_names(net, event):
     """The names of the bounds that narrow an event."""
     index = net.events.index(event)
     return f"low.{index}", f"high.{index}"
-
-
-def _need_event(net, event):
-    need_net(net)
-    if event not in net:
-        raise UnknownName(event)
 
 
 def _need_low(low):

@@ -22,6 +22,12 @@ def need_place(net, value):
         raise UnknownName(value)
 
 
+def need_event(net, value):
+    """Raises UnknownName unless the value is an event of the net, dawn not."""
+    if value not in net:
+        raise UnknownName(value)
+
+
 def are_told_words(net, value):
     """Whether the value is a tuple of told words of the net."""
     if not isinstance(value, tuple):

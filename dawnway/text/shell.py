@@ -4,7 +4,7 @@ from dawnway.base.names import DAWN, is_tick
 from dawnway.errors import InvalidNet, InvalidNumber, InvalidOperation, NothingToUndo, ParseError, UnknownName
 from dawnway.live.day import is_beginning, rest, verdict, verdicts
 from dawnway.mends.spare import spare
-from dawnway.net.needs import need_place, need_work
+from dawnway.net.needs import need_event, need_place, need_work
 from dawnway.net.nets import Net
 from dawnway.rule.tables import closure, is_safe
 from dawnway.text.formats import write_day, write_net
@@ -112,7 +112,7 @@ def _state_later(state, tick, events):
     """The net and the beginning that goes on to a later tick, at which these events are seen."""
     net, last, seen = state
     for event in events:
-        need_place(net, event)
+        need_event(net, event)
     if not is_tick(tick) or last is not None and tick <= last:
         raise InvalidNumber(tick)
     later = (*seen, *[(tick, event) for event in sorted(events)])
@@ -174,10 +174,9 @@ def _windows_of(state, events):
     """The lines of the least and the greatest ticks of some events in the rest."""
     net, tick, seen = state
     for event in events:
-        need_place(net, event)
+        need_event(net, event)
     rows = closure(rest(net, tick, seen))
     if rows is None:
         return "barred"
     bounds, _ = rows
-    bounds[(DAWN, DAWN)] = 0
     return "\n".join([words_of((event, -bounds[(event, DAWN)], bounds[(DAWN, event)])) for event in events])
